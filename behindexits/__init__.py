@@ -1,0 +1,1 @@
+"""Behindexits: what each way out of a program may trust."""

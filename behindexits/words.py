@@ -1,0 +1,67 @@
+"""What counts as an integer, a name, a literal and a value. Everything here may be asked about any object."""
+
+LETTERS = "abcdefghijklmnopqrstuvwxyz"
+LONGEST = 8
+BARRED = (
+    "again", "always", "any", "as", "ask", "below", "catch", "choose", "else", "end", "error", "for", "from", "if",
+    "inputs", "leave", "none", "or", "out", "raise", "read", "return", "set", "try", "value",
+)
+
+
+def is_number(thing):
+    """Whether it is an integer: True and False are none."""
+    return isinstance(thing, int) and not isinstance(thing, bool)
+
+
+def is_word(thing):
+    """Whether it is written like a name."""
+    if not isinstance(thing, str) or not 1 <= len(thing) <= LONGEST:
+        return False
+    return all([letter in LETTERS for letter in thing])
+
+
+def is_name(thing):
+    return is_word(thing) and thing not in BARRED
+
+
+def is_label(thing):
+    """Whether it may name an integer of a state: a name, or "value"."""
+    return is_word(thing) and (thing == "value" or thing not in BARRED)
+
+
+def are_different(things):
+    """Whether no string stands twice in a tuple of strings."""
+    return len(set(things)) == len(things)
+
+
+def are_names(thing):
+    """Whether it is a tuple of different names."""
+    return isinstance(thing, tuple) and all([is_name(part) for part in thing]) and are_different(thing)
+
+
+def are_labels(thing):
+    """Whether it is a tuple of different names, "value" allowed."""
+    return isinstance(thing, tuple) and all([is_label(part) for part in thing]) and are_different(thing)
+
+
+def is_literal(thing):
+    """Whether it is a literal over any strings."""
+    if not isinstance(thing, tuple) or len(thing) != 3:
+        return False
+    left, right, number = thing
+    return isinstance(left, str) and isinstance(right, str) and is_number(number)
+
+
+def is_term(thing):
+    """Whether it is a name or "", which stands for 0."""
+    return isinstance(thing, str) and (thing == "" or is_name(thing))
+
+
+def is_named_literal(thing):
+    """Whether it is a literal over names and ""."""
+    return is_literal(thing) and is_term(thing[0]) and is_term(thing[1])
+
+
+def is_value(thing):
+    """Whether it is a term with an integer."""
+    return isinstance(thing, tuple) and len(thing) == 2 and is_term(thing[0]) and is_number(thing[1])
