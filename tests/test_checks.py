@@ -90,6 +90,17 @@ class TestDead(CheckCase):
         self.assert_good(loop([choose([LEAVE])], [RAISE]), read("x"))
         self.assert_closed(loop([loop([LEAVE], (), "j")], [OUT]))
 
+    def test_errors_of_loops(self):
+        """What a turn raises goes out of the loop, and so does what its other part raises."""
+        handlers = [(("late",), None, ())]
+        self.assert_good(attempt([loop([RAISE], [OUT])], handlers), read("x"))
+        self.assert_good(attempt([loop([ASK], [OUT])], handlers), read("x"))
+        self.assert_good(attempt([loop([], [RAISE])], handlers), read("x"))
+        self.assert_good(attempt([loop([loop([RAISE], (), "j")], [OUT])], handlers), read("x"))
+        self.assert_closed(attempt([loop([("raise", "big", ZERO)], [OUT])], handlers))
+        self.assert_closed(attempt([loop([attempt([RAISE], [((), None, ())])], [OUT])], handlers))
+        self.assert_closed(attempt([loop([RAISE], [OUT])], [(("late",), None, (OUT,))]))
+
     def test_leave_in_the_other_part_means_the_loop_around(self):
         self.assert_good(loop([loop([], [LEAVE], "j")], [OUT]), read("x"))
         self.assert_good(loop([loop([], [AGAIN], "j")]), read("x"))

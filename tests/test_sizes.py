@@ -160,6 +160,19 @@ class TestSizes(unittest.TestCase):
                 self.assertIs(state in again, not fits_rows(rows, state))
             self.assertEqual(again, less)
 
+    def test_rows_of_two_differences(self):
+        """Rows that were returned may be passed on and joined, however many there are."""
+        choice = random.Random(53)
+        first, second = full_rows(choice, NAMES, 6, 6, 3), full_rows(choice, NAMES, 6, 6, 3)
+        one, other = States(NAMES, first), States(NAMES, second)
+        sides = [States(NAMES, (EVERY - states).rows) for states in (one, other)]
+        self.assertGreater(len(sides[0].rows) * len(sides[1].rows), 100000)
+        joined = sides[0] | sides[1]
+        for state in near_states(choice, first) + near_states(choice, second):
+            self.assertIs(state in joined, not fits_rows(first, state) or not fits_rows(second, state))
+        self.assertEqual(joined, EVERY - (one & other))
+        self.assertTrue(sides[0] <= joined and sides[1] <= joined)
+
     def test_names_that_go_one_by_one(self):
         choice = random.Random(50)
         first, second = full_rows(choice, NAMES, 6, 6, 4), full_rows(choice, NAMES, 6, 6, 4)
