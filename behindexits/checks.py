@@ -16,12 +16,16 @@ def check_program(inputs, block):
 
 
 class Check:
-    """A walk through a program's block. It keeps the settings that it has come by, as paths for each name."""
+    """A walk through a program's block.
+
+    It keeps the settings that it has come by, as paths for each name, and the names known before each statement.
+    """
 
     def __init__(self, inputs, block):
         self.inputs = inputs
         self.block = block
         self.settings = {}
+        self.known = {}
 
     def block_flow(self, block, before, known, looped):
         """The flow of a block at whose begin the names are known, or that is not come to if known is None.
@@ -35,6 +39,7 @@ class Check:
             if why is not None:
                 raise BadProgram(place, why)
             self.note(statement, place)
+            self.known[place] = known
             past = self.statement_flow(statement, place, known, looped)
             known = past.get(END)
             flow = either_flow(flow, without_end(past))

@@ -4,9 +4,10 @@ Each part has a state. Nothing here changes what it is passed: the operators of 
 here.
 """
 
+from behindexits.cases import has_some
 from behindexits.parts import branches, denied, free_zone, free_zones, is_part_inside, open_group, opened, settled
 from behindexits.shadows import moved, shadow
-from behindexits.zones import literals_of, met, met_all, opposite, spread, whole
+from behindexits.zones import around, is_inside, literals_of, met, met_all, opposite, spread, whole
 
 # A look at more pairs of parts than this costs more than it saves.
 MOST_PAIRS = 100000
@@ -112,6 +113,20 @@ def most_apart(parts, i, j):
     return most
 
 
+def hull(parts):
+    """The least zone around the parts; there is one."""
+    found = None
+    waiting = list(parts)
+    while waiting:
+        left = opened(waiting.pop())
+        if left is not None and (found is None or not is_inside(left[0], found)):
+            if left[1]:
+                waiting.extend(branches(left))
+            else:
+                found = left[0] if found is None else around(found, left[0])
+    return found
+
+
 def all_hold(parts, literal):
     """Whether the literal holds in all states."""
     for zone, clauses in parts:
@@ -125,22 +140,28 @@ def shadow_of(parts, k):
     """The states over the other integers with which some integer at k makes a state of the parts."""
     kept = []
     barred = ()
-    for part in parts:
-        for zone, clauses in shadow(part, k):
-            # Shadows of parts that are far apart often fall on one another.
-            if free_zone((zone, clauses + barred)) is not None:
-                kept.append((zone, clauses))
-                barred = barred + (denied(case_of((zone, clauses))),)
+    for zone, clauses in parts:
+        # Shadows of parts that are far apart often fall on one another.
+        if has_some((zone, clauses), barred):
+            seen = shadow((zone, clauses), (k,), barred)
+            barred = barred + (denied(case_of(seen)),)
+            kept.extend(spread_out(settled(seen), [i for i in range(len(zone)) if i != k]))
     return trimmed(kept)
 
 
 def spread_out(parts, olds):
-    """The parts with other integers: olds has the index that each was at, or None for one that was not there."""
-    places = [(0, 0) for old in olds]
-    for new, old in enumerate(olds):
-        if old is not None:
-            places[old] = (new, 0)
-    return tuple([(spread(zone, olds), moved(clauses, places)) for zone, clauses in parts])
+    """The parts over other integers: olds has the index that each was at, or None for one that was not there.
+
+    The parts are about no integer that is left out.
+    """
+    found = []
+    for zone, clauses in parts:
+        places = [(0, 0) for row in zone]
+        for new, old in enumerate(olds):
+            if old is not None:
+                places[old] = (new, 0)
+        found.append((spread(zone, olds), moved(clauses, places)))
+    return tuple(found)
 
 
 def rows_of(parts):

@@ -6,6 +6,7 @@ A flow is a dict from ways to tuples of names. A way is ("end",), ("leave",), ("
 
 END = ("end",)
 LEAVE = ("leave",)
+AGAIN = ("again",)
 
 
 def either_flow(one, other):

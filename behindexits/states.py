@@ -5,7 +5,7 @@ from behindexits.covers import (
 )
 from behindexits.errors import BadStates, NoLiterals, NoName, NoStates, Unlike
 from behindexits.parts import free_zone, has_state
-from behindexits.words import are_labels, is_label, is_literal, is_number
+from behindexits.words import are_labels, are_numbers, is_label, is_literal
 from behindexits.zones import point_of
 
 
@@ -65,13 +65,9 @@ class States:
         return tuple([tuple([(terms[i], terms[j], number) for i, j, number in row]) for row in found])
 
     def __contains__(self, state):
-        if not isinstance(state, dict) or len(state) != len(self.names):
+        if not are_numbers(state, self.names):
             return False
-        numbers = [0]
-        for name in self.names:
-            if name not in state or not is_number(state[name]):
-                return False
-            numbers.append(state[name])
+        numbers = [0] + [state[name] for name in self.names]
         return any([has_state(part, numbers) for part in self._cover.parts])
 
     def __eq__(self, other):

@@ -62,6 +62,13 @@ def is_named_literal(thing):
     return is_literal(thing) and is_term(thing[0]) and is_term(thing[1])
 
 
+def are_numbers(thing, names):
+    """Whether it is a dict that has just these names as its keys, and integers as its values."""
+    if not isinstance(thing, dict) or len(thing) != len(names):
+        return False
+    return all([name in thing and is_number(thing[name]) for name in names])
+
+
 def is_value(thing):
     """Whether it is a term with an integer."""
     return isinstance(thing, tuple) and len(thing) == 2 and is_term(thing[0]) and is_number(thing[1])

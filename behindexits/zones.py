@@ -106,11 +106,6 @@ def is_needed(zone, firsts, i, j):
     return True
 
 
-def without_index(zone, k):
-    """The zone over the other integers."""
-    return tuple([row[:k] + row[k + 1:] for row in zone[:k] + zone[k + 1:]])
-
-
 def spread(zone, olds):
     """The zone over other integers: olds has the index that each was at, or None for one that was not there."""
     numbers = []
@@ -147,3 +142,41 @@ def has_point(zone, numbers):
             if most is not None and left - right > most:
                 return False
     return True
+
+
+def freed(zone, indexes):
+    """The zone with any integers at the indexes."""
+    found = []
+    for i, row in enumerate(zone):
+        if i in indexes:
+            found.append(tuple([0 if i == j else None for j in range(len(row))]))
+        else:
+            found.append(tuple([None if j in indexes else number for j, number in enumerate(row)]))
+    return tuple(found)
+
+
+def are_linked(zone, hidden, i, j):
+    """Whether a difference of two hidden integers does not come from others that are not hidden."""
+    return is_link(zone, hidden, i, j) or is_link(zone, hidden, j, i)
+
+
+def is_link(zone, hidden, i, j):
+    number = zone[i][j]
+    if number is None:
+        return False
+    for k in range(len(zone)):
+        if k not in hidden and zone[i][k] is not None and zone[k][j] is not None and zone[i][k] + zone[k][j] <= number:
+            return False
+    return True
+
+
+def around(zone, other):
+    """The least zone around two zones."""
+    return tuple([tuple([greater(one, two) for one, two in zip(row, more)]) for row, more in zip(zone, other)])
+
+
+def greater(one, two):
+    """The greater one of two numbers, None if one of them is None."""
+    if one is None or two is None:
+        return None
+    return one if one > two else two

@@ -20,6 +20,16 @@ INTERFACE = {
     "programs": {"Program": {
         "__init__": ["inputs", "block"], "places": [], "__getitem__": ["place"], "__contains__": ["place"], "__eq__": ["other"],
     }},
+    "runs": {"run": ["program", "inputs", "answers", "*", "steps"], "tried": ["running", "answers"], "Running": {
+        "__init__": ["program", "inputs"], "asks": [], "where": [], "result": [], "__call__": ["answer"], "__enter__": [],
+        "__exit__": ["kind", "value", "trace"],
+    }},
+    "ways": {"ways": ["program"], "known": ["program", "way"], "known_at": ["program", "place"]},
+    "behind": {"behind": ["program", "way"], "can_end": ["program", "way"], "coming": ["program", "place"]},
+    "facts": {
+        "holds": ["program", "way", "literal"], "tightest": ["program", "way"], "is_whole": ["program", "way"],
+        "passes": ["program", "place", "values"],
+    },
 }
 BUILTINS = set(
     "len range enumerate zip min max sum abs sorted reversed int str bool bytes list tuple dict set frozenset isinstance ord "
@@ -86,8 +96,9 @@ def bound_at(node):
 
 class TestInterface(unittest.TestCase):
     def arguments_of(self, function):
-        self.assertFalse(function.args.vararg or function.args.kwarg or function.args.kwonlyargs or function.args.defaults)
-        return [argument.arg for argument in function.args.args]
+        self.assertFalse(function.args.vararg or function.args.kwarg or function.args.defaults)
+        named = [argument.arg for argument in function.args.kwonlyargs]
+        return [argument.arg for argument in function.args.args] + (["*"] + named if named else [])
 
     def test_names_and_arguments(self):
         for module, names in INTERFACE.items():
@@ -100,11 +111,19 @@ class TestInterface(unittest.TestCase):
                     for method, arguments in wanted.items():
                         self.assertEqual(self.arguments_of(methods[method]), ["self"] + arguments, method)
 
-    def test_rows_is_a_property_and_names_is_set_at_once(self):
+    def test_properties_and_attributes(self):
+        from behindexits.runs import Running
         from behindexits.states import States
 
         self.assertIsInstance(vars(States)["rows"], property)
         self.assertEqual(States(("a",), ()).__dict__["names"], ("a",))
+        for name in ("asks", "where", "result"):
+            self.assertIsInstance(vars(Running)[name], property)
+
+    def test_steps_if_nothing_is_said(self):
+        from behindexits.runs import run
+
+        self.assertEqual(run.__kwdefaults__, {"steps": 1000})
 
     def test_a_program_has_its_values(self):
         from behindexits.programs import Program
@@ -233,13 +252,13 @@ class TestLanguage(unittest.TestCase):
             for node in ast.walk(tree):
                 if isinstance(node, ast.Call) and isinstance(node.func, ast.Name):
                     if node.func.id in ("sorted", "min", "max"):
-                        self.assertEqual([(word.arg, word.value.id) for word in node.keywords], [("key", "str")])
+                        self.assertIn([(word.arg, word.value.id) for word in node.keywords], ([("key", "str")], [("key", "int")]))
                     if node.func.id in ("any", "all", "sum"):
                         self.assertIsInstance(node.args[0], ast.ListComp)
 
     def test_what_operators_run_modifies_only_its_own_lists(self):
         """In the files that the operators of States and Program run through, L5 Operators."""
-        for name in ("words", "zones", "parts", "covers", "states", "forms"):
+        for name in ("words", "zones", "parts", "cases", "shadows", "covers", "states", "forms"):
             for function in functions_of(TREES[name]):
                 own = set()
                 for node in ast.walk(function):

@@ -4,6 +4,7 @@ import copy
 
 from behindexits.errors import BadProgram, NoStates
 from behindexits.programs import Program
+from behindexits.runs import Running
 from behindexits.states import States
 
 
@@ -25,6 +26,7 @@ def odd_things():
         b"", b"a", bytearray(b"a"), memoryview(b"a"), range(2), slice(1), Ellipsis, NotImplemented, object(), int, len,
         print, generator(), iter([1]), zip([1]), frozenset(["a"]), set(), {"a"}, ValueError, ValueError("a"), property(),
         Program(("n",), ()), States(("n",), ((),)), NoStates(), BadProgram((), "form"), Program, States,
+        Running(Program((), (("read", "x"),)), {}), Running(Program(("n",), ()), {"n": 1}), Running,
         (), [], {}, ("a",), ("a", "b"), ["a"], {"a": 1}, {"n": True}, ("", "", True), ["", "", 0], ("", "", "0"),
         ("a", "", 1, 2), ("", b"", 0), ("", "", 1j), (("", "", 0),), nested(59),
     ]
