@@ -49,7 +49,7 @@ def part_behind(walk, way):
 
 def part_of(walk, cases):
     """The part over all names with which one of the cases fits, or None if it has no state."""
-    part = narrowed(walk.start, any_of(cases)) if cases else None
+    part = narrowed(walk.start, any_of(cases))
     return part if part is not None and has_some(part, ()) else None
 
 
@@ -58,5 +58,5 @@ def parts_over(walk, part, names):
     if part is None:
         return ()
     indexes = [0] + [walk.indexes[name] for name in names]
-    hidden = [i for i in range(1 + walk.behind) if i not in indexes]
+    hidden = [i for i in range(walk.behind) if i not in indexes]
     return trimmed(spread_out(settled(shadow(lean(part, ()), hidden, ())), indexes))

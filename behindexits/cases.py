@@ -3,7 +3,7 @@
 Nothing here changes what it is passed.
 """
 
-from behindexits.parts import EMPTY, denied, free_zone, opened
+from behindexits.parts import EMPTY, denied, flat, free_zone, opened
 from behindexits.zones import follows, literals_of
 
 
@@ -13,23 +13,10 @@ def joint(one, other):
 
 
 def any_of(cases):
-    """The case that fits if one of the cases does; there is one or more."""
+    """The case that fits if one of the cases does: none does if there are none."""
     if len(cases) == 1:
         return cases[0]
-    literals = []
-    rest = []
-    for case in cases:
-        inner, clauses = case
-        if case == EMPTY:
-            return EMPTY
-        if len(inner) == 1 and not clauses:
-            literals.append(inner[0])
-        elif not inner and len(clauses) == 1:
-            literals.extend(clauses[0][0])
-            rest.extend(clauses[0][1])
-        else:
-            rest.append(case)
-    return ((), ((tuple(literals), tuple(rest)),))
+    return EMPTY if EMPTY in cases else ((), (flat((), cases),))
 
 
 def options_of(clause):
@@ -64,7 +51,7 @@ def lean(part, given):
         if not can_fit(rest, denied(clauses[at]), given):
             zone, clauses = rest
         else:
-            kept = [case for case in options_of(clauses[at]) if can_fit(rest, case, given)]
+            kept = needed(rest, options_of(clauses[at]), given)
             if len(kept) == 1:
                 zone, clauses = narrowed(rest, kept[0])
                 at = 0
@@ -72,6 +59,19 @@ def lean(part, given):
                 clauses = clauses[:at] + any_of(kept)[1] + clauses[at + 1:]
                 at += 1
     return (zone, clauses)
+
+
+def needed(part, options, given):
+    """The options but those that fit only such states of the part as fit others, or as do not fit the given clauses."""
+    kept = list(options)
+    at = 0
+    while at < len(kept):
+        others = kept[:at] + kept[at + 1:]
+        if can_fit(part, kept[at], given + tuple([denied(other) for other in others])):
+            at += 1
+        else:
+            kept = others
+    return kept
 
 
 def can_fit(part, case, given):

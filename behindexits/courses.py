@@ -4,10 +4,12 @@ What is around the place where a course is stands in its frames, from within to 
 frames). A frame has a word and what is needed when that which is within it has come out by a way:
 
 - ("block", block, before, index): a block, what the places in it begin with, and the index of the next statement.
-- ("turn", loop, place, turn, high, numbers): a turn of a loop, with the numbers from before the loop.
-- ("try", statement, place, numbers): the block of a try, with the numbers from before it.
-- ("rest", statement, place, numbers): the part behind that block, if there is one, up to the always part.
-- ("last", way, numbers): the always part, with the way and the numbers that go on behind it.
+- ("turn", loop, place, turn, high): a turn of a loop, and the loop's high value.
+- ("try", statement, place): the block of a try.
+- ("rest", statement, place): the part behind that block, if there is one, up to the always part.
+- ("last", way): the always part, with the way that goes on behind it.
+
+A name that is known somewhere was set last on the way to there. So numbers that are forgotten may as well be kept.
 
 Frames and the numbers of the names are never changed, only replaced. So a copy of a course is cheap.
 """
@@ -115,32 +117,31 @@ class Course:
             # Before its first turn a loop is as behind a turn that has passed.
             low = number_of(self.numbers, statement[2])
             high = number_of(self.numbers, statement[3])
-            self.frames = (("turn", statement, place, low - 1, high, self.numbers), self.frames)
+            self.frames = (("turn", statement, place, low - 1, high), self.frames)
         elif word == "try":
-            self.frames = (("try", statement, place, self.numbers), self.frames)
+            self.frames = (("try", statement, place), self.frames)
             self.enter(statement, place, 0)
         else:
             # An out, a leave and an again are written like their ways.
             self.way = statement
 
     def end_turn(self, frame, around):
-        word, statement, place, turn, high, numbers = frame
+        word, statement, place, turn, high = frame
         self.frames = around
         if self.way == LEAVE:
             self.way = END
         elif self.way in (END, AGAIN):
-            self.numbers = numbers
             if turn + 1 < high:
                 self.begin_step()
-                self.numbers = with_number(numbers, statement[1], turn + 1)
-                self.frames = ((word, statement, place, turn + 1, high, numbers), around)
+                self.numbers = with_number(self.numbers, statement[1], turn + 1)
+                self.frames = ((word, statement, place, turn + 1, high), around)
                 self.enter(statement, place, 0)
             else:
                 self.enter(statement, place, 1)
 
     def end_tried(self, frame, around):
-        word, statement, place, numbers = frame
-        self.frames = (("rest", statement, place, numbers), around)
+        word, statement, place = frame
+        self.frames = (("rest", statement, place), around)
         handlers = statement[2]
         if self.way == END:
             self.enter(statement, place, 1 + len(handlers))
@@ -148,18 +149,17 @@ class Course:
             at = first_fit(handlers, self.way[1])
             if at is not None:
                 name = handlers[at][1]
-                self.numbers = numbers if name is None else with_number(numbers, name, self.way[2])
+                if name is not None:
+                    self.numbers = with_number(self.numbers, name, self.way[2])
                 self.enter(statement, place, 1 + at)
 
     def end_rest(self, frame, around):
-        word, statement, place, numbers = frame
-        self.frames = (("last", self.way, self.numbers), around)
-        self.numbers = numbers
+        word, statement, place = frame
+        self.frames = (("last", self.way), around)
         self.enter(statement, place, 2 + len(statement[2]))
 
     def end_always(self, frame, around):
-        word, way, numbers = frame
+        word, way = frame
         self.frames = around
         if self.way == END:
             self.way = way
-            self.numbers = numbers

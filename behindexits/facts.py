@@ -45,7 +45,7 @@ def is_whole(program, way):
 
 def passes(program, place, values):
     """The stretches of turns of the loop at a place that can pass with these values of the names known there."""
-    if place not in program or program[place][0] != "for":
+    if program[place][0] != "for":
         raise NoPlace(place)
     if not are_numbers(values, known_at(program, place)):
         raise NoValues()
@@ -71,11 +71,12 @@ def stretches_of(parts):
     inside = is_in(parts, edges[0] - 1 if edges else 0)
     # From one edge to the next one all integers are in the parts, or none is.
     for edge in edges:
-        if inside and not is_in(parts, edge):
+        now = is_in(parts, edge)
+        if inside and not now:
             found.append((first, edge))
-        elif not inside and is_in(parts, edge):
+        if not inside:
             first = edge
-        inside = is_in(parts, edge)
+        inside = now
     return found + [(first, None)] if inside else found
 
 

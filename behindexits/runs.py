@@ -57,8 +57,9 @@ class Stand:
         if course.asked is None:
             self.told = result_of(program, course)
         else:
-            statement, self.place = course.asked
+            statement, place = course.asked
             self.word = statement[0]
+            self.place = place
 
 
 class Mark:

@@ -60,7 +60,7 @@ def shadow_cases(around, part, hidden, given):
     """Cases of which the states of the part around fit one if they are in the shadow of the part."""
     given = given + around[1]
     found = []
-    for option in split(part, hidden):
+    for option in split_up(part, hidden):
         inner = opened(option)
         # What is in the cases before it need not be found again.
         if inner is not None and has_some(inner, given):
@@ -95,35 +95,22 @@ def groups_of(zone, clauses, hidden):
     found = []
     while waiting:
         group = []
-        reach = []
         joining = [waiting[0]]
         while joining:
             group.extend(joining)
             waiting = [clause for clause in waiting if clause not in joining]
-            reach = linked(zone, hidden, reach + touched(joining, hidden))
+            reach = [k for k in hidden if is_in_reach(zone, group, hidden, k)]
             joining = [clause for clause in waiting if is_about(clause, reach)]
         found.append(tuple(group))
     return found
 
 
-def touched(clauses, hidden):
-    """The hidden indexes that the clauses are about."""
-    return [k for k in hidden if any([is_about(clause, (k,)) for clause in clauses])]
+def is_in_reach(zone, group, hidden, k):
+    """Whether the clauses of a group are about the integer at k, or about one that is linked to it."""
+    return any([is_about(((), group), (i,)) and (i == k or are_linked(zone, hidden, i, k)) for i in hidden])
 
 
-def linked(zone, hidden, reach):
-    """The hidden indexes in reach, and all that are linked to them, also through others."""
-    found = list(reach)
-    waiting = list(reach)
-    while waiting:
-        i = waiting.pop()
-        more = [k for k in hidden if k not in found and are_linked(zone, hidden, i, k)]
-        found.extend(more)
-        waiting.extend(more)
-    return found
-
-
-def split(part, hidden):
+def split_up(part, hidden):
     """Parts that are the part together when the hidden integers may be any, with less to do with these."""
     zone, clauses = part
     literals = literals_of(zone) + inner_literals(clauses)

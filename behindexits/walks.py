@@ -163,10 +163,10 @@ class Walk:
 
     def passing(self, body, inner, ways):
         """The case that a turn can pass, if the body of the loop has these ways in the states inner; None: none can."""
-        cases = [ways[way] for way in (END, AGAIN) if way in ways]
-        if not cases:
+        if END not in ways and AGAIN not in ways:
             return None
-        return shadow_case(inner, any_of(cases), [self.indexes[name] for name in names_set(body)])
+        case = any_of([ways[way] for way in (END, AGAIN) if way in ways])
+        return shadow_case(inner, case, [self.indexes[name] for name in names_set(body)])
 
     def stopping(self, statement, there, passing):
         """The case that one of the turns of a loop from the first one up to self.behind cannot pass; None: all can.

@@ -1,21 +1,14 @@
 """Programs written in another way."""
 
+from tests.byform import blocks_in
+
 
 def rebuilt(block, change):
     """The block with each statement changed, those within it first; a change gives a tuple of statements."""
     found = ()
     for statement in block:
-        found += change(with_blocks(statement, [rebuilt(inner, change) for inner in blocks_of(statement)]))
+        found += change(with_blocks(statement, [rebuilt(inner, change) for inner in blocks_in(statement)]))
     return found
-
-
-def blocks_of(statement):
-    word = statement[0]
-    if word in ("if", "choose", "for"):
-        return list(statement[-2:])
-    if word == "try":
-        return [statement[1]] + [handler[2] for handler in statement[2]] + list(statement[3:])
-    return []
 
 
 def with_blocks(statement, blocks):

@@ -15,37 +15,12 @@ from tests.changes import moved, moved_literal, put, rebuilt, renamed, swapped
 from tests.makes import EVEN, TRIES, random_program
 from tests.plain import small_states
 from tests.plainsets import Sets, TooMuch, over
+from tests.short import AGAIN, END, LATE, LEAVE, OUT, ZERO, ask, attempt, choose, loop, when
 from tests.things import frozen, odd_things
 
-ZERO = ("", 0)
-END = ("end",)
-LEAVE = ("leave",)
-AGAIN = ("again",)
-OUT = ("out", "done")
-LATE = ("raise", "late")
 BIG = 10 ** 99
 # Far more than the calls take, so that a slow machine passes.
 MOST_SECONDS = 20
-
-
-def loop(body, other=(), name="i", low=ZERO, high=("n", 0)):
-    return ("for", name, low, high, tuple(body), tuple(other))
-
-
-def attempt(block, handlers=(), other=(), always=()):
-    return ("try", tuple(block), tuple(handlers), tuple(other), tuple(always))
-
-
-def choose(yes, no=()):
-    return ("choose", tuple(yes), tuple(no))
-
-
-def when(left, right, number, yes, no=()):
-    return ("if", (left, right, number), tuple(yes), tuple(no))
-
-
-def ask(left, right, number, kind="late"):
-    return ("ask", (left, right, number), kind)
 
 
 def is_just(name, number):
@@ -339,6 +314,22 @@ class TestNever(BehindCase):
             self.assert_behind(program, ("out", "done"))
             self.assertIsNone(behind(program, ("out", "done")).some())
             self.assertTrue(can_end(program, END))
+
+    def test_ways_that_no_choice_of_answers_takes(self):
+        """Each test may go either way by itself, but not all of them together."""
+        block = (
+            choose([("set", "x", ("n", 1))], [("set", "x", ("n", 4))]), choose([("set", "y", ("n", 2))], [("set", "y", ("n", 5))]),
+            when("x", "y", 0, [when("y", "x", 0, [OUT])]),
+        )
+        program = Program(("n",), block)
+        self.assert_behind(program, ("out", "done"))
+        self.assert_coming(program, (2, 0, 0, 0, 0))
+        self.assert_behind(program, END, *(
+            same("x", "n", x) + same("y", "n", y) for x, y in ((1, 2), (1, 5), (4, 2), (4, 5))
+        ))
+        turns = Program(("n", "k"), (loop(block, (), "i", ("k", 0)),))
+        self.assert_behind(turns, ("out", "done"))
+        self.assert_behind(turns, END, ())
 
     def test_places_to_which_no_run_comes(self):
         program = Program(("n",), (ask("", "", -1), ("read", "x"), loop([("read", "y")])))

@@ -13,30 +13,12 @@ from behindexits.states import States
 from behindexits.ways import known, known_at, ways
 from tests.makes import EVEN, TRIES, random_program
 from tests.plain import small_states
-from tests.plainsets import END, Sets, TooMuch, number, over
+from tests.plainsets import Sets, TooMuch, number, over
+from tests.short import END, LATE, OUT, ZERO, ask, choose, loop, when
 from tests.things import frozen, odd_things
 
-ZERO = ("", 0)
-OUT = ("out", "done")
-LATE = ("raise", "late")
 BIG = 10 ** 99
 MOST_SECONDS = 20
-
-
-def loop(body, other=(), name="i", low=ZERO, high=("n", 0)):
-    return ("for", name, low, high, tuple(body), tuple(other))
-
-
-def when(left, right, most, yes, no=()):
-    return ("if", (left, right, most), tuple(yes), tuple(no))
-
-
-def ask(left, right, most, kind="late"):
-    return ("ask", (left, right, most), kind)
-
-
-def choose(yes, no=()):
-    return ("choose", tuple(yes), tuple(no))
 
 
 HOLE = Program(("n",), (loop([when("i", "", 2, [], [when("", "i", -5, [], [("out", "hole")])])]),))

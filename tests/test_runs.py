@@ -8,33 +8,14 @@ from behindexits.programs import Program
 from behindexits.runs import Running, run, tried
 from tests.makes import EVEN, TRIES, random_program
 from tests.plainruns import result_of
+from tests.short import AGAIN, END, LEAVE, ZERO, attempt, choose, loop, when
 from tests.things import frozen, odd_things
 
-ZERO = ("", 0)
-END = ("end",)
 BIG = 10 ** 45
-LEAVE = ("leave",)
-AGAIN = ("again",)
-
-
-def loop(body, other=(), name="i", low=ZERO, high=("n", 0)):
-    return ("for", name, low, high, tuple(body), tuple(other))
-
-
-def attempt(block, handlers=(), other=(), always=()):
-    return ("try", tuple(block), tuple(handlers), tuple(other), tuple(always))
-
-
-def choose(yes, no=()):
-    return ("choose", tuple(yes), tuple(no))
 
 
 def out(name):
     return ("out", name)
-
-
-def when(left, right, number, yes, no=()):
-    return ("if", (left, right, number), tuple(yes), tuple(no))
 
 
 class RunCase(unittest.TestCase):
