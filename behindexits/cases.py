@@ -4,6 +4,7 @@ Nothing here changes what it is passed.
 """
 
 from behindexits.parts import EMPTY, denied, flat, free_zone, opened
+from behindexits.strips import merged
 from behindexits.zones import follows, literals_of
 
 
@@ -14,9 +15,10 @@ def joint(one, other):
 
 def any_of(cases):
     """The case that fits if one of the cases does: none does if there are none."""
-    if len(cases) == 1:
-        return cases[0]
-    return EMPTY if EMPTY in cases else ((), (flat((), cases),))
+    found = merged(cases)
+    if len(found) == 1:
+        return found[0]
+    return EMPTY if EMPTY in found else ((), (flat((), found),))
 
 
 def options_of(clause):
@@ -51,12 +53,12 @@ def lean(part, given):
         if not can_fit(rest, denied(clauses[at]), given):
             zone, clauses = rest
         else:
-            kept = needed(rest, options_of(clauses[at]), given)
-            if len(kept) == 1:
-                zone, clauses = narrowed(rest, kept[0])
+            kept = any_of(needed(rest, options_of(clauses[at]), given))
+            if kept[0] or len(kept[1]) > 1:
+                zone, clauses = narrowed(rest, kept)
                 at = 0
             else:
-                clauses = clauses[:at] + any_of(kept)[1] + clauses[at + 1:]
+                clauses = clauses[:at] + kept[1] + clauses[at + 1:]
                 at += 1
     return (zone, clauses)
 

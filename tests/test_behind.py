@@ -581,6 +581,38 @@ class TestSizes(BehindCase):
         block = tuple(choose([ask("n", "", at)] if at % 3 == 0 else []) for at in range(22))
         self.assert_behind(Program(("n",), block), END, ())
 
+    def sums(self, names, base, before):
+        """Choices of which each adds nothing or a power of the base."""
+        block = ()
+        for at, name in enumerate(names):
+            block += (choose([("set", name, (before, 0))], [("set", name, (before, base ** at))]),)
+            before = name
+        return block
+
+    def test_sums_of_choices(self):
+        for base, most in ((2, 511), (3, 9841)):
+            block = self.sums("abcdefghi", base, "n") + (ask("i", "k", 0), ("raise", "big", ("i", 0)))
+            program = Program(("n", "k", "m"), block)
+            self.look(program)
+            self.assert_behind(program, LATE, is_just("value", 0) + (("k", "n", most - 1),))
+            found = behind(program, ("raise", "big"))
+            for value in range(27):
+                wanted = base == 2 or 2 not in (value // 9, value // 3 % 3, value % 3)
+                self.assertIs({"n": 5, "k": 99, "m": 0, "value": 5 + value} in found, wanted)
+
+    def test_sums_of_choices_in_turns(self):
+        """A turn passes if some choices lead to k."""
+        for base in (2, 3):
+            body = self.sums("abcdef", base, "x") + (ask("f", "k", 0), ask("k", "f", 0))
+            program = Program(("n", "k", "m"), (loop(body, (), "x", ("n", 0), ("m", 0)),))
+            self.look(program)
+            self.assert_behind(program, LATE, is_just("value", 0) + (("n", "m", -1),))
+            found = behind(program, END)
+            most = 63 if base == 2 else 1
+            for state, wanted in (((0, most, most + 1), True), ((0, most, most + 2), False), ((-1, most, most + 1), False),
+                                  ((0, -1, 1), False), ((0, 9, 0), True)):
+                self.assertIs(dict(zip("nkm", state)) in found, wanted)
+
     def test_ten_tests(self):
         names = "abcdefghij"
         block = ()
