@@ -29,10 +29,10 @@ def merged_along(cases, i, j):
     found = []
     strips = {}
     for literals, clauses in cases:
-        rest = tuple([literal for literal in literals if not is_between(literal, i, j)])
-        if clauses or len(rest) == len(literals):
+        if clauses:
             found.append((literals, clauses))
         else:
+            rest = tuple([literal for literal in literals if not is_between(literal, i, j)])
             strips[rest] = strips.get(rest, ()) + (strip_of(literals, i, j),)
     for rest in strips:
         found.extend([(rest + bounds(strip, i, j), ()) for strip in united(strips[rest])])

@@ -45,6 +45,7 @@ class TestMerged(unittest.TestCase):
         self.assert_merged([rest + from_to(0, 1), rest + from_to(2, 3)], [rest + from_to(0, 3)])
         self.assert_merged([rest + from_to(0, 1), other + from_to(2, 4)], [rest + from_to(0, 1), other + from_to(2, 4)])
         self.assert_merged([rest + from_to(0, 1), from_to(2, 3)], [rest + from_to(0, 1), from_to(2, 3)])
+        self.assert_merged([rest + from_to(0, 1), rest, rest + from_to(4, None)], [rest])
         self.assert_merged([((1, 1, 0),), ((1, 1, -1),)], [((1, 1, 0),), ((1, 1, -1),)])
 
     def test_one_difference_after_another(self):
