@@ -7,10 +7,11 @@ from itertools import product
 
 from behindexits.behind import behind, can_end
 from behindexits.errors import BehindError, Never, NoLiterals, NoName, NoPlace, NoValues, NoWay
-from behindexits.facts import holds, is_whole, passes, tightest
+from behindexits.facts import holds, is_whole, passes, stretches_of, tightest
 from behindexits.programs import Program
 from behindexits.states import States
 from behindexits.ways import known, known_at, ways
+from behindexits.zones import met_all, whole
 from tests.makes import EVEN, TRIES, random_program
 from tests.plain import small_states
 from tests.plainsets import Sets, TooMuch, number, over
@@ -329,6 +330,30 @@ class TestPasses(FactsCase):
     def test_lists_are_new(self):
         passes(HOLE, (0,), {"n": 4}).clear()
         self.assertEqual(passes(HOLE, (0,), {"n": 4}), [(None, 3), (5, None)])
+
+
+class TestStretches(FactsCase):
+    def test_parts_that_overlap(self):
+        """However the turns that pass are found, stretches that touch are one."""
+        for strips, wanted in (
+            ([(0, 5), (3, 9)], [(0, 10)]), ([(3, 9), (0, 5)], [(0, 10)]), ([(0, 9), (3, 5)], [(0, 10)]),
+            ([(0, 4), (5, 9), (11, 11)], [(0, 10), (11, 12)]), ([(None, 4), (2, None)], [(None, None)]),
+            ([(None, 4), (None, 7), (9, None), (10, 20)], [(None, 8), (9, None)]), ([(None, None), (3, 4)], [(None, None)]), ([], []),
+        ):
+            parts = [(met_all(whole(1), self.bounds(strip)), ()) for strip in strips]
+            self.assertEqual(stretches_of(parts), wanted)
+
+    def test_parts_with_clauses(self):
+        """Bounds that mean nothing, because a clause says more, end no stretch."""
+        zone = met_all(whole(1), self.bounds((0, 9)))
+        for literals, wanted in (
+            (((1, 0, 3), (0, 1, -6)), [(0, 4), (6, 10)]), (((1, 0, 6), (0, 1, -3)), [(0, 10)]), (((1, 0, -1), (0, 1, -10)), []),
+        ):
+            self.assertEqual(stretches_of([(zone, ((literals, ()),))]), wanted)
+
+    def bounds(self, strip):
+        low, high = strip
+        return ([] if low is None else [(0, 1, -low)]) + ([] if high is None else [(1, 0, high)])
 
 
 class TestSizes(FactsCase):
