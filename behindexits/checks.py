@@ -6,26 +6,23 @@ from behindexits.forms import blocks_of, handlers_of, has_shape, settings_of, st
 from behindexits.words import are_names
 
 
-def check_program(inputs, block):
-    """Raise BadProgram if they are not those of a program."""
-    if not are_names(inputs):
-        raise BadProgram((), "inputs")
-    if not isinstance(block, tuple):
-        raise BadProgram((), "form")
-    Check(inputs, block).block_flow(block, (), inputs, False)
-
-
 class Check:
-    """A walk through a program's block.
+    """A walk through a program's block. It raises BadProgram if they are not those of a program.
 
-    It keeps the settings that it has come by, as paths for each name, and the names known before each statement.
+    It keeps the settings that it has come by, as paths for each name, the names known before each statement, and the
+    flow of the block.
     """
 
     def __init__(self, inputs, block):
+        if not are_names(inputs):
+            raise BadProgram((), "inputs")
+        if not isinstance(block, tuple):
+            raise BadProgram((), "form")
         self.inputs = inputs
         self.block = block
         self.settings = {}
         self.known = {}
+        self.flow = self.block_flow(block, (), inputs, False)
 
     def block_flow(self, block, before, known, looped):
         """The flow of a block at whose begin the names are known, or that is not come to if known is None.

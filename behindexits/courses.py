@@ -1,165 +1,117 @@
-"""Courses: runs of programs, step by step, each up to where it needs an answer or has ended.
-
-What is around the place where a course is stands in its frames, from within to without, as nested pairs (frame,
-frames). A frame has a word and what is needed when that which is within it has come out by a way:
-
-- ("block", block, before, index): a block, what the places in it begin with, and the index of the next statement.
-- ("turn", loop, place, turn, high): a turn of a loop, and the loop's high value.
-- ("try", statement, place): the block of a try.
-- ("rest", statement, place): the part behind that block, if there is one, up to the always part.
-- ("last", way): the always part, with the way that goes on behind it.
-
-A name that is known somewhere was set last on the way to there. So numbers that are forgotten may as well be kept.
-
-Frames and the numbers of the names are never changed, only replaced. So a copy of a course is cheap.
-"""
+"""Courses: runs of programs along their codes, each up to where it needs an answer or has ended."""
 
 from behindexits.errors import TooLong
-from behindexits.flows import AGAIN, END, LEAVE, first_fit
-from behindexits.forms import blocks_of
-
-
-def number_of(numbers, value):
-    """The integer of a value."""
-    term, number = value
-    return number if term == "" else numbers[term] + number
-
-
-def does_hold(numbers, literal):
-    left, right, number = literal
-    return number_of(numbers, (left, 0)) <= number_of(numbers, (right, number))
-
-
-def with_number(numbers, name, number):
-    found = {old: numbers[old] for old in numbers}
-    found[name] = number
-    return found
 
 
 class Course:
-    """A run. Its way is the end until it goes another way; the way of an error has its number, too."""
+    """A run that may take so many steps. It has an end if it has ended, else a word and a place that needs an answer."""
 
-    def __init__(self, block, numbers, most):
-        """A run of a block that has not begun yet, and may take so many steps."""
+    def __init__(self, code, numbers, most):
+        """A run that has not begun yet."""
+        self.code = code
         self.numbers = numbers
-        self.frames = (("block", block, (), 0), None)
-        self.way = END
-        self.asked = None
-        self.steps = 0
         self.most = most
+        self.at = code.first
+        self.steps = 0
+        self.word = None
+        self.place = None
+        self.end = None
 
     def copied(self):
-        other = Course((), self.numbers, self.most)
-        other.frames = self.frames
-        other.way = self.way
-        other.asked = self.asked
+        other = Course(self.code, list(self.numbers), self.most)
+        other.at = self.at
         other.steps = self.steps
         return other
 
     def go_on(self):
         """Go on to where an answer is needed, or to the end of the run."""
-        while self.asked is None and self.frames is not None:
-            frame, around = self.frames
-            if frame[0] == "block":
-                self.go_through(frame, around)
-            elif frame[0] == "turn":
-                self.end_turn(frame, around)
-            elif frame[0] == "try":
-                self.end_tried(frame, around)
-            elif frame[0] == "rest":
-                self.end_rest(frame, around)
-            else:
-                self.end_always(frame, around)
+        self.at, self.steps = gone_on(self.code.listing, self.numbers, self.at, self.steps, self.most)
+        row = self.code.listing[self.at]
+        if row[0] == "stop":
+            word, count, way, values = row
+            self.end = (way, values)
+        else:
+            self.word = row[0]
+            self.place = row[2]
 
     def take(self, answer):
         """Take the answer that is needed, and go on."""
-        statement, place = self.asked
-        self.asked = None
-        if statement[0] == "read":
-            self.numbers = with_number(self.numbers, statement[1], answer)
+        row = self.code.listing[self.at]
+        if row[0] == "read":
+            self.numbers[row[3]] = answer
+            self.at = row[4]
         else:
-            self.enter(statement, place, 0 if answer == 0 else 1)
+            self.at = row[3] if answer == 0 else row[4]
         self.go_on()
 
-    def begin_step(self):
-        if self.steps == self.most:
+    def told(self):
+        """The way and the values of a run that has ended."""
+        way, values = self.end
+        return (way, {name: self.numbers[values[name]] for name in values})
+
+
+def gone_on(rows, numbers, at, steps, most):
+    """The row at which a run stops that goes on from the row at an index with these numbers, and the steps till then."""
+    while True:
+        row = rows[at]
+        word = row[0]
+        steps += row[1]
+        if steps > most:
             raise TooLong()
-        self.steps += 1
-
-    def enter(self, statement, place, number):
-        """Come to the begin of the block with a number of the statement at a place."""
-        self.way = END
-        self.frames = (("block", blocks_of(statement)[number], place + (number,), 0), self.frames)
-
-    def go_through(self, frame, around):
-        word, block, before, index = frame
-        if self.way != END or index == len(block):
-            self.frames = around
-        else:
-            self.frames = ((word, block, before, index + 1), around)
-            self.begin_step()
-            self.begin(block[index], before + (index,))
-
-    def begin(self, statement, place):
-        word = statement[0]
-        if word in ("read", "choose"):
-            self.asked = (statement, place)
-        elif word == "set":
-            self.numbers = with_number(self.numbers, statement[1], number_of(self.numbers, statement[2]))
+        if word == "turn":
+            at = row[5]
+            if numbers[row[2]] + 1 < numbers[row[3]]:
+                steps += 1
+                numbers[row[2]] += 1
+                at = row[4]
         elif word == "if":
-            self.enter(statement, place, 0 if does_hold(self.numbers, statement[1]) else 1)
+            at = row[5] if numbers[row[2]] <= numbers[row[3]] + row[4] else row[6]
+        elif word == "set":
+            numbers[row[2]] = numbers[row[3]] + row[4]
+            at = row[5]
         elif word == "ask":
-            if not does_hold(self.numbers, statement[1]):
-                self.way = ("raise", statement[2], 0)
-        elif word == "raise":
-            self.way = ("raise", statement[1], number_of(self.numbers, statement[2]))
+            holding = numbers[row[2]] <= numbers[row[3]] + row[4]
+            at = row[5] if holding else failed(numbers, row[6:], 0)
+        elif word == "way":
+            numbers[row[2]] = row[3]
+            at = row[4]
         elif word == "for":
-            # Before its first turn a loop is as behind a turn that has passed.
-            low = number_of(self.numbers, statement[2])
-            high = number_of(self.numbers, statement[3])
-            self.frames = (("turn", statement, place, low - 1, high), self.frames)
-        elif word == "try":
-            self.frames = (("try", statement, place), self.frames)
-            self.enter(statement, place, 0)
+            numbers[row[2]] = numbers[row[3]] + row[4] - 1
+            numbers[row[7]] = numbers[row[5]] + row[6]
+            at = row[8]
+        elif word == "go":
+            at = row[2]
+        elif word in ("read", "choose", "stop"):
+            return (at, steps)
+        elif word == "raise":
+            at = failed(numbers, row[4:], numbers[row[2]] + row[3])
+        elif word == "bare":
+            steps += turns(numbers, row)
+            at = row[6]
         else:
-            # An out, a leave and an again are written like their ways.
-            self.way = statement
+            at = resumed(numbers, row)
 
-    def end_turn(self, frame, around):
-        word, statement, place, turn, high = frame
-        self.frames = around
-        if self.way == LEAVE:
-            self.way = END
-        elif self.way in (END, AGAIN):
-            if turn + 1 < high:
-                self.begin_step()
-                self.numbers = with_number(self.numbers, statement[1], turn + 1)
-                self.frames = ((word, statement, place, turn + 1, high), around)
-                self.enter(statement, place, 0)
-            else:
-                self.enter(statement, place, 1)
 
-    def end_tried(self, frame, around):
-        word, statement, place = frame
-        self.frames = (("rest", statement, place), around)
-        handlers = statement[2]
-        if self.way == END:
-            self.enter(statement, place, 1 + len(handlers))
-        elif self.way[0] == "raise":
-            at = first_fit(handlers, self.way[1])
-            if at is not None:
-                name = handlers[at][1]
-                if name is not None:
-                    self.numbers = with_number(self.numbers, name, self.way[2])
-                self.enter(statement, place, 1 + at)
+def failed(numbers, leaving, number):
+    """Raise an error with a value; the row that follows."""
+    r, way, v, at = leaving
+    numbers[r] = way
+    numbers[v] = number
+    return at
 
-    def end_rest(self, frame, around):
-        word, statement, place = frame
-        self.frames = (("last", self.way), around)
-        self.enter(statement, place, 2 + len(statement[2]))
 
-    def end_always(self, frame, around):
-        word, way = frame
-        self.frames = around
-        if self.way == END:
-            self.way = way
+def turns(numbers, row):
+    """How many turns a loop without a body has."""
+    word, count, i, m, j, k, other = row
+    many = numbers[j] + k - numbers[i] - m
+    return many if many > 0 else 0
+
+
+def resumed(numbers, row):
+    """Go on behind an always part by the way that was kept; the row that follows."""
+    word, count, r, v, exits = row
+    way = numbers[r]
+    outer, value, at = exits[way]
+    numbers[outer] = way
+    numbers[value] = numbers[v]
+    return at

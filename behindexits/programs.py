@@ -1,17 +1,24 @@
 """Programs: blocks of statements over inputs, checked once when they are made."""
 
-from behindexits.checks import check_program
+from behindexits.checks import Check
 from behindexits.errors import NoPlace
 from behindexits.forms import places_in, statement_at
 
 
 class Program:
-    """A valid program. program[place] is the statement at a place."""
+    """A valid program. program[place] is the statement at a place.
+
+    Its flow and the names known before its statements are found when it is made. What is found out about it later is
+    kept, so that it is found once: a program does not change.
+    """
 
     def __init__(self, inputs, block):
-        check_program(inputs, block)
+        check = Check(inputs, block)
         self.inputs = inputs
         self.block = block
+        self.flow = check.flow
+        self.known_before = check.known
+        self.kept = {}
 
     def places(self):
         """All places, in reading order."""

@@ -1,8 +1,8 @@
 """Runs of programs, with all answers at once or with one after the other."""
 
+from behindexits.codes import Code
 from behindexits.courses import Course
 from behindexits.errors import Ended, NoAnswers, NoInputs, NoSteps, TooFew
-from behindexits.ways import known
 from behindexits.words import are_numbers, is_number
 
 FEW_STEPS = 1000
@@ -22,11 +22,21 @@ def check_answers(answers):
             raise NoAnswers(at)
 
 
-def result_of(program, course):
-    """The way and the values of a run that has ended."""
-    way = course.way[:2]
-    names = known(program, way)
-    return (way, {name: course.way[2] if name == "value" else course.numbers[name] for name in names})
+def code_of(program):
+    if "code" not in program.kept:
+        program.kept["code"] = Code(program.inputs, program.block, program.flow)
+    return program.kept["code"]
+
+
+def begun(program, inputs, most):
+    """The course of a run with these inputs up to where it needs its first answer, or has ended."""
+    code = code_of(program)
+    numbers = [0] * code.many
+    for name in program.inputs:
+        numbers[code.indexes[name]] = inputs[name]
+    course = Course(code, numbers, most)
+    course.go_on()
+    return course
 
 
 def run(program, inputs, answers, *, steps=FEW_STEPS):
@@ -35,87 +45,64 @@ def run(program, inputs, answers, *, steps=FEW_STEPS):
     check_answers(answers)
     if not is_number(steps) or not 1 <= steps <= MOST_STEPS:
         raise NoSteps(steps)
-    course = Course(program.block, dict(inputs), steps)
-    course.go_on()
+    course = begun(program, inputs, steps)
     for answer in answers:
-        if course.asked is None:
+        if course.end is not None:
             break
         course.take(answer)
-    if course.asked is not None:
+    if course.end is None:
         raise TooFew(len(answers))
-    return result_of(program, course)
-
-
-class Stand:
-    """Where a Running is: its course, the word and the place of what is asked there, and what is told at the end."""
-
-    def __init__(self, program, course):
-        self.course = course
-        self.word = None
-        self.place = None
-        self.told = None
-        if course.asked is None:
-            self.told = result_of(program, course)
-        else:
-            statement, place = course.asked
-            self.word = statement[0]
-            self.place = place
+    return course.told()
 
 
 class Mark:
     """Where a Running was when a with block was entered, and the mark of the with block around that one."""
 
-    def __init__(self, stand, around):
-        self.stand = stand
+    def __init__(self, course, around):
+        self.course = course
         self.around = around
 
 
 class Running:
-    """A run whose answers are given one by one."""
+    """A run whose answers are given one by one. Where it stands, its course is left as it is, and copied to go on."""
 
     def __init__(self, program, inputs):
         check_inputs(program, inputs)
-        course = Course(program.block, dict(inputs), FEW_STEPS)
-        course.go_on()
-        self._program = program
-        self._stand = Stand(program, course)
+        self._course = begun(program, inputs, FEW_STEPS)
         self._mark = None
 
     @property
     def asks(self):
         """The word of the statement that needs the next answer, or None if the run has ended."""
-        return self._stand.word
+        return self._course.word
 
     @property
     def where(self):
         """The place of the statement that needs the next answer, or None if the run has ended."""
-        return self._stand.place
+        return self._course.place
 
     @property
     def result(self):
         """The way and the values, or None if the run has not ended."""
-        if self._stand.told is None:
-            return None
-        way, values = self._stand.told
-        return (way, dict(values))
+        return None if self._course.end is None else self._course.told()
 
     def __call__(self, answer):
         """Give the next answer; what asks is then."""
-        if self._stand.word is None:
+        if self._course.end is not None:
             raise Ended()
         if not is_number(answer):
             raise NoAnswers(0)
-        course = self._stand.course.copied()
+        course = self._course.copied()
         course.take(answer)
-        self._stand = Stand(self._program, course)
-        return self._stand.word
+        self._course = course
+        return course.word
 
     def __enter__(self):
-        self._mark = Mark(self._stand, self._mark)
+        self._mark = Mark(self._course, self._mark)
         return self
 
     def __exit__(self, kind, value, trace):
-        self._stand = self._mark.stand
+        self._course = self._mark.course
         self._mark = self._mark.around
 
 

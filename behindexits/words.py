@@ -1,11 +1,12 @@
 """What counts as an integer, a name, a literal and a value. Everything here may be asked about any object."""
 
-LETTERS = "abcdefghijklmnopqrstuvwxyz"
 LONGEST = 8
-BARRED = (
-    "again", "always", "any", "as", "ask", "below", "catch", "choose", "else", "end", "error", "for", "from", "if",
-    "inputs", "leave", "none", "or", "out", "raise", "read", "return", "set", "try", "value",
-)
+BARRED = {
+    "again": True, "always": True, "any": True, "as": True, "ask": True, "below": True, "catch": True, "choose": True,
+    "else": True, "end": True, "error": True, "for": True, "from": True, "if": True, "inputs": True, "leave": True,
+    "none": True, "or": True, "out": True, "raise": True, "read": True, "return": True, "set": True, "try": True,
+    "value": True,
+}
 
 
 def is_number(thing):
@@ -17,7 +18,7 @@ def is_word(thing):
     """Whether it is written like a name."""
     if not isinstance(thing, str) or not 1 <= len(thing) <= LONGEST:
         return False
-    return all([letter in LETTERS for letter in thing])
+    return thing.isascii() and thing.isalpha() and thing.islower()
 
 
 def is_name(thing):
