@@ -5,7 +5,7 @@ Nothing here changes what it is passed.
 
 from behindexits.parts import EMPTY, denied, flat, free_zone, opened
 from behindexits.strips import merged
-from behindexits.zones import follows, literals_of
+from behindexits.zones import follows, literals_of, met_all
 
 
 def joint(one, other):
@@ -15,6 +15,8 @@ def joint(one, other):
 
 def any_of(cases):
     """The case that fits if one of the cases does: none does if there are none."""
+    if len(cases) == 1:
+        return cases[0]
     found = merged(cases)
     if len(found) == 1:
         return found[0]
@@ -29,8 +31,9 @@ def options_of(clause):
 
 def narrowed(part, case):
     """The states of the part that fit the case, opened, or None if there are seen to be none."""
-    zone, clauses = part
-    return opened((zone, clauses + (((), (case,)),)))
+    literals, more = case
+    zone = met_all(part[0], literals)
+    return None if zone is None else opened((zone, part[1] + more))
 
 
 def has_some(part, clauses):

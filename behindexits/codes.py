@@ -1,11 +1,11 @@
 """Codes: programs as rows of steps, each of which tells the indexes of the rows that can follow it.
 
-A run keeps its integers in a list of numbers. Index 0 has 0, the inputs follow, and each name that is set has an index;
-so has what a try or a loop has to remember. A name that is known somewhere was set last on the way to there. So numbers
-that are forgotten may as well be kept, and one index serves all turns of a loop.
+A run keeps its integers in a list of numbers. Index 0 has 0, the inputs follow, and each name that is set has an
+index; so has what a try or a loop has to remember. A name that is known somewhere was set last on the way to there. So
+numbers that are forgotten may as well be kept, and one index serves all turns of a loop.
 
-An exit (r, v, at) tells what is done with a way that goes out: the way is kept at the index r, the value of the error at
-the index v, and the row at the index `at` follows. SPARE is an index that nothing looks at.
+An exit (r, v, at) tells what is done with a way that goes out: the way is kept at the index r, the value of the error
+at the index v, and the row at the index `at` follows. SPARE is an index that nothing looks at.
 
 The rows are these. The number behind the word tells whether the row begins a step.
 
@@ -13,8 +13,8 @@ The rows are these. The number behind the word tells whether the row begins a st
   ("raise", 1, i, number, r, way, v, at), ("read", 1, place, x, next), ("choose", 1, place, yes, no).
 - ("go", 1, next): a try.
 - ("way", 0 or 1, r, way, next): an out, a leave, an again, or the end of the parts before an always part.
-- ("for", 1, x, i, m, j, k, h, next), ("turn", 0, x, h, body, other): a loop, which keeps its high value at h; before its
-  first turn it is as behind one that has passed.
+- ("for", 1, x, i, m, j, k, h, next), ("turn", 0, x, h, body, other): a loop, which keeps its high value at h; before
+  its first turn it is as behind one that has passed.
 - ("bare", 1, i, m, j, k, other): a loop without a body, all turns of which are counted at once.
 - ("last", 0, r, v, exits): behind an always part; exits is a dict from ways to exits.
 - ("stop", 0, way, values): the end of the run; values is a dict from names to indexes.

@@ -4,7 +4,7 @@ from behindexits.errors import TooLong
 
 
 class Course:
-    """A run that may take so many steps. It has an end if it has ended, else a word and a place that needs an answer."""
+    """A run that may take so many steps. It has an end, or else a word and a place that needs an answer."""
 
     def __init__(self, code, numbers, most):
         """A run that has not begun yet."""
@@ -51,7 +51,7 @@ class Course:
 
 
 def gone_on(rows, numbers, at, steps, most):
-    """The row at which a run stops that goes on from the row at an index with these numbers, and the steps till then."""
+    """The row where a run stops that goes on from the row at an index with these numbers, and the steps till then."""
     while True:
         row = rows[at]
         word = row[0]

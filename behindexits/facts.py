@@ -1,6 +1,6 @@
 """What holds behind the ways out of a program, and which turns of its loops can pass."""
 
-from behindexits.behind import behind, part_of, parts_behind, parts_over
+from behindexits.behind import part_of, parts_behind, parts_over, some_behind
 from behindexits.cases import joint, narrowed
 from behindexits.covers import are_inside, hull
 from behindexits.errors import Never, NoPlace, NoValues
@@ -8,14 +8,18 @@ from behindexits.flows import AGAIN, END
 from behindexits.parts import EMPTY, has_state
 from behindexits.shadows import inner_literals
 from behindexits.walks import Walk, equality
-from behindexits.ways import known, known_at
+from behindexits.terms import check_literal, check_terms
+from behindexits.ways import check_way, kept_ways, known, known_at
 from behindexits.words import are_numbers
-from behindexits.zones import literals_of
+from behindexits.zones import literals_of, opposite
 
 
 def holds(program, way, literal):
     """Whether a literal holds in all states behind a way."""
-    return behind(program, way).holds(literal)
+    check_way(program, way)
+    check_literal(literal)
+    check_terms(literal, kept_ways(program)[way])
+    return some_behind(program, way, (opposite(literal),)) is None
 
 
 def some_parts_behind(program, way):

@@ -67,8 +67,14 @@ def handlers_of(statement):
 
 def blocks_of(statement):
     """The blocks of a statement, by their numbers."""
-    blocks = parts_of(statement, "block")
-    return blocks[:1] + [block for kinds, name, block in handlers_of(statement)] + blocks[1:]
+    word = statement[0]
+    if word == "for":
+        return [statement[4], statement[5]]
+    if word == "try":
+        return [statement[1]] + [block for kinds, name, block in statement[2]] + [statement[3], statement[4]]
+    if word in ("if", "choose"):
+        return [statement[-2], statement[-1]]
+    return []
 
 
 def settings_of(statement, place):

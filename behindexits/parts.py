@@ -20,6 +20,8 @@ FULL = 1000000000000
 LARGE = 1000
 A_ZONE = 10
 DEEP = 60
+# So many looks at a part cost little against what is found if they are enough.
+A_FEW = 24
 
 
 def denied(group):
@@ -32,32 +34,38 @@ def open_group(zone, group, is_case):
     """The case or clause without what is settled by the zone.
 
     It is None if no state of the zone is seen to fit the case, or if all are seen to fit the clause. It is EMPTY if all
-    are seen to fit the case, or none to fit the clause.
+    are seen to fit the case, or none to fit the clause. A group within it that is of one literal or one group is taken
+    into it.
     """
     literals, others = group
     plain = []
     for literal in literals:
         i, j, number = literal
         there = zone[i][j]
-        back = zone[j][i]
         if there is not None and there <= number:
             if not is_case:
                 return None
-        elif back is not None and back + number < 0:
-            if is_case:
-                return None
         else:
-            plain.append(literal)
-    if not others:
-        return (tuple(plain), ())
+            back = zone[j][i]
+            if back is None or back + number >= 0:
+                plain.append(literal)
+            elif is_case:
+                return None
     rest = []
     for other in others:
         left = open_group(zone, other, not is_case)
-        if left == EMPTY:
-            return None
         if left is not None:
-            rest.append(left)
-    return flat(plain, rest)
+            inner, groups = left
+            if not groups and len(inner) < 2:
+                if not inner:
+                    return None
+                plain.append(inner[0])
+            elif not inner and len(groups) == 1:
+                plain.extend(groups[0][0])
+                rest.extend(groups[0][1])
+            else:
+                rest.append(left)
+    return (tuple(plain), tuple(rest))
 
 
 def flat(literals, groups):
@@ -79,7 +87,7 @@ def flat(literals, groups):
 def opened(part):
     """The part with as much in its zone as is seen to go there, or None if it is seen to have no state."""
     zone, clauses = part
-    while zone is not None:
+    while clauses and zone is not None:
         left = open_group(zone, ((), clauses), True)
         if left is None:
             return None
@@ -87,7 +95,7 @@ def opened(part):
         if not literals:
             return (zone, clauses)
         zone = met_all(zone, literals)
-    return None
+    return None if zone is None else (zone, ())
 
 
 def weight(clause):
@@ -153,6 +161,37 @@ def free_zones(part, looks):
             else:
                 found.append(left[0])
     return found
+
+
+def few_zones(part):
+    """A few zones, which may have states in common, that are the part together; None if it takes more than a few looks.
+
+    As the clauses are split without their opposites, these zones are less many and wider than those of free_zones.
+    """
+    found = []
+    waiting = [part]
+    looks = 0
+    while waiting:
+        if looks == A_FEW:
+            return None
+        looks += 1
+        left = opened(waiting.pop())
+        if left is not None:
+            zone, clauses = left
+            if clauses:
+                waiting.extend(options_within(zone, clauses))
+            elif not any([is_inside(zone, other) for other in found]):
+                found.append(zone)
+    return found
+
+
+def options_within(zone, clauses):
+    """Parts that are the zone with the clauses together: one of the clauses is split into what it is of."""
+    at = lightest(clauses)
+    rest = clauses[:at] + clauses[at + 1:]
+    literals, cases = clauses[at]
+    found = [(met(zone, literal), rest) for literal in literals]
+    return found + [(met_all(zone, inner), rest + others) for inner, others in cases]
 
 
 def settled(part):

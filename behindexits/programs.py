@@ -8,8 +8,8 @@ from behindexits.forms import places_in, statement_at
 class Program:
     """A valid program. program[place] is the statement at a place.
 
-    Its flow and the names known before its statements are found when it is made. What is found out about it later is
-    kept, so that it is found once: a program does not change.
+    Its flow, the names known before its statements and the names that are set are found when it is made. What is found
+    out about it later is kept, so that it is found once: a program does not change.
     """
 
     def __init__(self, inputs, block):
@@ -18,6 +18,7 @@ class Program:
         self.block = block
         self.flow = check.flow
         self.known_before = check.known
+        self.settings = tuple(check.settings)
         self.kept = {}
 
     def places(self):

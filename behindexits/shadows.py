@@ -7,7 +7,7 @@ Nothing here changes what it is passed.
 """
 
 from behindexits.cases import any_of, case_within, has_some, lean, narrowed, options_of
-from behindexits.parts import denied, lightest, opened
+from behindexits.parts import denied, few_zones, lightest, opened
 from behindexits.zones import are_linked, freed, literals_of, met_all
 
 # A split by floors repeats all clauses in each of its parts: it is taken if it is into so many times fewer parts.
@@ -34,11 +34,16 @@ def moved_literal(literal, places):
 def shadow_case(there, case, hidden):
     """The case that a state of the part there fits if some integers at the hidden indexes make it fit this case.
 
-    The part is about none of these integers. It is None if no state fits.
+    The part is about none of these integers. It is None only if no state fits.
     """
     zone, given = there
     part = narrowed((zone, ()), case)
-    if part is None or not has_some(part, given):
+    if part is None:
+        return None
+    zones = few_zones(part)
+    if zones is not None:
+        return any_of([case_within(zone, (freed(inner, hidden), ())) for inner in zones]) if zones else None
+    if not has_some(part, given):
         return None
     return case_within(zone, shadow(lean(part, given), hidden, given))
 

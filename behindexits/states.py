@@ -3,8 +3,9 @@
 from behindexits.covers import (
     Cover, all_hold, are_inside, both, either, less, most_apart, of_rows, rows_of, shadow_of, spread_out,
 )
-from behindexits.errors import BadStates, NoLiterals, NoName, NoStates, Unlike
+from behindexits.errors import BadStates, NoName, NoStates, Unlike
 from behindexits.parts import free_zone, has_state
+from behindexits.terms import check_literal, check_term, check_terms
 from behindexits.words import are_labels, are_numbers, is_label, is_literal
 from behindexits.zones import point_of
 
@@ -24,11 +25,6 @@ def is_over(literal, names):
     if not is_literal(literal):
         return False
     return all([term == "" or term in names for term in literal[:2]])
-
-
-def check_term(term, names):
-    if not isinstance(term, str) or (term != "" and term not in names):
-        raise NoName(term)
 
 
 def check_alike(one, other):
@@ -109,11 +105,9 @@ class States:
 
     def holds(self, literal):
         """Whether the literal holds in all states."""
-        if not is_literal(literal):
-            raise NoLiterals(0)
+        check_literal(literal)
+        check_terms(literal, self.names)
         left, right, number = literal
-        check_term(left, self.names)
-        check_term(right, self.names)
         return all_hold(self._cover.parts, (self._index(left), self._index(right), number))
 
     def bound(self, left, right):

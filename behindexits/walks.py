@@ -12,11 +12,13 @@ All this counts only for the states "there": a part, with which the statement or
 
 from behindexits.cases import any_of, joint, narrowed
 from behindexits.flows import AGAIN, END, LEAVE, first_fit
-from behindexits.forms import blocks_of, places_in, settings_of, statement_at
-from behindexits.parts import EMPTY, denied, open_group
+from behindexits.forms import blocks_of, settings_of
+from behindexits.parts import EMPTY, denied, open_group, size_of
 from behindexits.shadows import moved, shadow_case
 from behindexits.zones import opposite, whole
 
+# A case of so many literals need not be made leaner.
+SMALL = 8
 # The way of what comes to the statement at the target.
 HERE = ("here",)
 
@@ -24,9 +26,15 @@ HERE = ("here",)
 def names_set(block):
     """The names that are set in a block."""
     found = {}
-    for place in places_in(block, ()):
-        for name, path in settings_of(statement_at(block, place), place):
-            found[name] = True
+    for statement in block:
+        if statement[0] in ("set", "read"):
+            found[statement[1]] = True
+        else:
+            for name, path in settings_of(statement, ()):
+                found[name] = True
+            for inner in blocks_of(statement):
+                for name in names_set(inner):
+                    found[name] = True
     return list(found)
 
 
@@ -51,7 +59,9 @@ def joined(there, found):
     """The ways for which there are lists of cases, each with the case that one of these fits."""
     ways = {}
     for way in found:
-        case = open_group(there[0], any_of(found[way]), True)
+        case = any_of(found[way])
+        if case != EMPTY:
+            case = open_group(there[0], case, True)
         if case is not None:
             ways[way] = case
     return ways
@@ -63,7 +73,7 @@ class Walk:
     def __init__(self, program, target):
         self.block = program.block
         self.target = target
-        names = [""] + list(program.inputs) + names_set(program.block) + ["value"]
+        names = [""] + list(program.inputs + program.settings) + ["value"]
         self.indexes = {name: i for i, name in enumerate(names)}
         # What is at this index is the turn behind those of a loop that are looked at.
         self.behind = len(names)
@@ -85,6 +95,8 @@ class Walk:
 
     def block_ways(self, block, before, there):
         """The ways of a block, the places in which begin with before."""
+        if not block:
+            return {END: EMPTY}
         found = {}
         done = EMPTY
         now = there
@@ -113,12 +125,12 @@ class Walk:
             return self.loop_ways(statement, place, there)
         if word == "try":
             return self.try_ways(statement, place, there)
-        found = {}
         if word == "set":
-            found[END] = [equality(self.indexes[statement[1]], self.point(statement[2]))]
-        elif word == "read":
-            found[END] = [EMPTY]
-        elif word == "ask":
+            return {END: equality(self.indexes[statement[1]], self.point(statement[2]))}
+        if word == "read":
+            return {END: EMPTY}
+        found = {}
+        if word == "ask":
             holding, failing = self.guards(statement[1])
             found[END] = [holding]
             found[("raise", statement[2], 0, 0)] = [failing]
@@ -126,7 +138,7 @@ class Walk:
             found[("raise", statement[1]) + self.point(statement[2])] = [EMPTY]
         else:
             # An out, a leave and an again are written like their ways.
-            found[statement] = [EMPTY]
+            return {statement: EMPTY}
         return joined(there, found)
 
     def split_ways(self, statement, place, there, guards):
@@ -166,7 +178,8 @@ class Walk:
         if END not in ways and AGAIN not in ways:
             return None
         case = any_of([ways[way] for way in (END, AGAIN) if way in ways])
-        return shadow_case(inner, case, [self.indexes[name] for name in names_set(body)])
+        hidden = [self.indexes[name] for name in names_set(body)]
+        return shadow_case(inner, case, hidden) if hidden or size_of((case,)) > SMALL else case
 
     def stopping(self, statement, there, passing):
         """The case that one of the turns of a loop from the first one up to self.behind cannot pass; None: all can.

@@ -33,23 +33,24 @@ def follows(zone, literal):
 
 def met(zone, literal):
     """The states of the zone with which the literal holds, or None if there is none."""
-    if follows(zone, literal):
-        return zone
-    if fails(zone, literal):
-        return None
     i, j, number = literal
-    tail = zone[j]
-    return tuple([row if row[i] is None else shortened(row, row[i] + number, tail) for row in zone])
+    there = zone[i][j]
+    if there is not None and there <= number:
+        return zone
+    back = zone[j][i]
+    if back is not None and back + number < 0:
+        return None
+    tail = [(k, step + number) for k, step in enumerate(zone[j]) if step is not None]
+    return tuple([row if row[i] is None else shortened(row, row[i], tail) for row in zone])
 
 
 def shortened(row, start, tail):
     """The row's numbers, or the start and the tail's number where this is less."""
-    found = []
-    for old, step in zip(row, tail):
-        if step is None or (old is not None and old <= start + step):
-            found.append(old)
-        else:
-            found.append(start + step)
+    found = list(row)
+    for k, step in tail:
+        old = row[k]
+        if old is None or old > start + step:
+            found[k] = start + step
     return tuple(found)
 
 
@@ -65,9 +66,10 @@ def met_all(zone, literals):
 def is_inside(zone, other):
     """Whether each state of the zone is one of the other zone."""
     for row, wide in zip(zone, other):
-        for least, most in zip(row, wide):
-            if most is not None and (least is None or least > most):
-                return False
+        if row != wide:
+            for least, most in zip(row, wide):
+                if most is not None and (least is None or least > most):
+                    return False
     return True
 
 
@@ -75,34 +77,34 @@ def literals_of(zone):
     """As few literals as give the zone."""
     heads = [head_of(zone, i) for i in range(len(zone))]
     found = []
-    for head in range(len(zone)):
+    for head in [head for i, head in enumerate(heads) if head != i and heads.index(head, head + 1) == i]:
         group = [i for i in range(len(zone)) if heads[i] == head]
-        if len(group) > 1:
-            # These differ by fixed numbers: a ring through them says so.
-            found = found + [(i, j, zone[i][j]) for i, j in zip(group, group[1:] + group[:1])]
+        # These differ by fixed numbers: a ring through them says so.
+        found = found + [(i, j, zone[i][j]) for i, j in zip(group, group[1:] + group[:1])]
     firsts = [i for i in range(len(zone)) if heads[i] == i]
     for i in firsts:
-        found = found + [(i, j, zone[i][j]) for j in firsts if i != j and is_needed(zone, firsts, i, j)]
+        others = [j for j in firsts if zone[i][j] is not None and i != j]
+        found = found + [(i, j, zone[i][j]) for j in others if is_needed(zone, firsts, i, j)]
     return tuple(found)
 
 
 def head_of(zone, i):
     """The least index whose integer differs from that of i by a fixed number."""
+    row = zone[i]
     for j in range(i):
-        if zone[i][j] is not None and zone[j][i] is not None and zone[i][j] + zone[j][i] == 0:
+        if row[j] is not None and zone[j][i] is not None and row[j] + zone[j][i] == 0:
             return j
     return i
 
 
 def is_needed(zone, firsts, i, j):
-    """Whether the difference of i and j does not come from two others."""
-    number = zone[i][j]
-    if number is None:
-        return False
+    """Whether the difference of i and j does not come from two others; there is one."""
+    row = zone[i]
+    number = row[j]
     for k in firsts:
-        if k != i and k != j and zone[i][k] is not None and zone[k][j] is not None:
-            if zone[i][k] + zone[k][j] <= number:
-                return False
+        step = row[k]
+        if step is not None and zone[k][j] is not None and k != i and k != j and step + zone[k][j] <= number:
+            return False
     return True
 
 
@@ -116,6 +118,12 @@ def spread(zone, olds):
 
 def number_at(zone, i, j):
     return None if i is None or j is None else zone[i][j]
+
+
+def picked(zone, indexes):
+    """The zone over the integers at these indexes alone."""
+    rows = [zone[i] for i in indexes]
+    return tuple([tuple([row[j] for j in indexes]) for row in rows])
 
 
 def point_of(zone):
@@ -148,10 +156,13 @@ def freed(zone, indexes):
     """The zone with any integers at the indexes."""
     found = []
     for i, row in enumerate(zone):
+        numbers = list(row)
         if i in indexes:
-            found.append(tuple([0 if i == j else None for j in range(len(row))]))
-        else:
-            found.append(tuple([None if j in indexes else number for j, number in enumerate(row)]))
+            numbers = [None for number in row]
+        for j in indexes:
+            numbers[j] = None
+        numbers[i] = 0
+        found.append(tuple(numbers))
     return tuple(found)
 
 
