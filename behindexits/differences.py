@@ -54,17 +54,24 @@ def ring_behind(literals, lowered_by, term):
 def is_ring(literals, indices):
     """Whether an object is a ring of the literals."""
     check_literals(literals)
+    return are_indices(indices, len(literals)) and goes_round([literals[index] for index in indices])
+
+
+def are_indices(indices, many):
+    """Whether an object is a tuple of one or more different indices of so many things."""
     if not isinstance(indices, tuple) or not indices:
         return False
     for index in indices:
-        if not is_number(index) or not 0 <= index < len(literals):
+        if not is_number(index) or not 0 <= index < many:
             return False
-    if len(set(indices)) < len(indices):
-        return False
+    return len(set(indices)) == len(indices)
+
+
+def goes_round(literals):
+    """Whether each literal ends where the next one begins, the last one where the first does, with a sum below 0."""
     total = 0
-    last = literals[indices[-1]][1]
-    for index in indices:
-        left, right, number = literals[index]
+    last = literals[-1][1]
+    for left, right, number in literals:
         if left != last:
             return False
         last = right

@@ -1,24 +1,25 @@
 """What holds behind the ways out of a program, and which turns of its loops can pass."""
 
-from behindexits.behind import part_of, parts_behind, parts_over, some_behind
-from behindexits.cases import joint, narrowed
+from behindexits.behind import parts_behind, some_behind
 from behindexits.covers import are_inside, hull
 from behindexits.errors import Never, NoPlace, NoValues
-from behindexits.flows import AGAIN, END
-from behindexits.parts import EMPTY, has_state
-from behindexits.shadows import inner_literals
-from behindexits.walks import Walk, equality
 from behindexits.terms import check_literal, check_terms
+from behindexits.turns import turns_of
 from behindexits.ways import check_way, kept_ways, known, known_at
 from behindexits.words import are_numbers
-from behindexits.zones import literals_of, opposite
+from behindexits.zones import opposite
+
+
+def check_known_literal(program, way, literal):
+    """Check a way, and a literal over the names known at it."""
+    check_way(program, way)
+    check_literal(literal)
+    check_terms(literal, kept_ways(program)[way])
 
 
 def holds(program, way, literal):
     """Whether a literal holds in all states behind a way."""
-    check_way(program, way)
-    check_literal(literal)
-    check_terms(literal, kept_ways(program)[way])
+    check_known_literal(program, way, literal)
     return some_behind(program, way, (opposite(literal),)) is None
 
 
@@ -53,36 +54,4 @@ def passes(program, place, values):
         raise NoPlace(place)
     if not are_numbers(values, known_at(program, place)):
         raise NoValues()
-    word, name, low, high, body, other = program[place]
-    walk = Walk(program, None)
-    valued = EMPTY
-    for term in values:
-        valued = joint(valued, equality(walk.indexes[term], (0, values[term])))
-    ways = walk.block_ways(body, place + (0,), narrowed(walk.start, valued))
-    part = part_of(walk, [joint(valued, ways[way]) for way in (END, AGAIN) if way in ways])
-    return stretches_of(parts_over(walk, part, [name]))
-
-
-def stretches_of(parts):
-    """The stretches (first, behind) of the integers in parts over one integer."""
-    places = {}
-    for zone, clauses in parts:
-        for i, j, number in literals_of(zone) + inner_literals(clauses):
-            places[number + 1 if j == 0 else -number] = True
-    edges = sorted(list(places), key=int)
-    found = []
-    first = None
-    inside = is_in(parts, edges[0] - 1 if edges else 0)
-    # From one edge to the next one all integers are in the parts, or none is.
-    for edge in edges:
-        now = is_in(parts, edge)
-        if inside and not now:
-            found.append((first, edge))
-        if not inside:
-            first = edge
-        inside = now
-    return found + [(first, None)] if inside else found
-
-
-def is_in(parts, number):
-    return any([has_state(part, [0, number]) for part in parts])
+    return turns_of(program, place).stretches(values)

@@ -9,6 +9,15 @@ def check_literal(literal):
         raise NoLiterals(0)
 
 
+def check_row(literals):
+    """Check a tuple of literals."""
+    if not isinstance(literals, tuple):
+        raise NoLiterals(-1)
+    for at, literal in enumerate(literals):
+        if not is_literal(literal):
+            raise NoLiterals(at)
+
+
 def check_term(term, names):
     if not isinstance(term, str) or (term != "" and term not in names):
         raise NoName(term)

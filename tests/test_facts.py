@@ -7,8 +7,10 @@ from itertools import product
 
 from behindexits.behind import behind, can_end
 from behindexits.errors import BehindError, Never, NoLiterals, NoName, NoPlace, NoValues, NoWay
-from behindexits.facts import holds, is_whole, passes, stretches_of, tightest
+from behindexits.covers import case_of
+from behindexits.facts import holds, is_whole, passes, tightest
 from behindexits.programs import Program
+from behindexits.turns import bounds_of, stretches_of
 from behindexits.states import States
 from behindexits.ways import known, known_at, ways
 from behindexits.zones import met_all, whole
@@ -341,7 +343,7 @@ class TestStretches(FactsCase):
             ([(None, 4), (None, 7), (9, None), (10, 20)], [(None, 8), (9, None)]), ([(None, None), (3, 4)], [(None, None)]), ([], []),
         ):
             parts = [(met_all(whole(1), self.bounds(strip)), ()) for strip in strips]
-            self.assertEqual(stretches_of(parts), wanted)
+            self.assertEqual(self.stretches(parts), wanted)
 
     def test_parts_with_clauses(self):
         """Bounds that mean nothing, because a clause says more, end no stretch."""
@@ -349,7 +351,11 @@ class TestStretches(FactsCase):
         for literals, wanted in (
             (((1, 0, 3), (0, 1, -6)), [(0, 4), (6, 10)]), (((1, 0, 6), (0, 1, -3)), [(0, 10)]), (((1, 0, -1), (0, 1, -10)), []),
         ):
-            self.assertEqual(stretches_of([(zone, ((literals, ()),))]), wanted)
+            self.assertEqual(self.stretches([(zone, ((literals, ()),))]), wanted)
+
+    def stretches(self, parts):
+        case = ((), (((), tuple(case_of(part) for part in parts)),))
+        return stretches_of(case, bounds_of(case, 1), 1, [0, 0])
 
     def bounds(self, strip):
         low, high = strip

@@ -30,6 +30,12 @@ INTERFACE = {
         "holds": ["program", "way", "literal"], "tightest": ["program", "way"], "is_whole": ["program", "way"],
         "passes": ["program", "place", "values"],
     },
+    "paths": {
+        "paths": ["program", "way"], "way_of": ["program", "path"], "along": ["program", "path"], "facts_of": ["program", "path"],
+    },
+    "broken": {"run_fault": ["program", "path", "values"], "breaking": ["program", "way", "literal"]},
+    "trees": {"closes": ["program", "path", "extra", "tree"]},
+    "papers": {"paper": ["program", "way", "literal"], "paper_fault": ["program", "way", "literal", "paper"]},
 }
 BUILTINS = set(
     "len range enumerate zip min max sum abs sorted reversed int str bool bytes list tuple dict set frozenset isinstance ord "
