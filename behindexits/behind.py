@@ -45,7 +45,7 @@ def parts_behind(program, way):
 def walk_of(program):
     """A walk through the program, with the ways that it finds."""
     if "walk" not in program.kept:
-        walk = Walk(program, None)
+        walk = Walk(program)
         program.kept["walk"] = (walk, walk.ways())
     return program.kept["walk"]
 
@@ -55,13 +55,17 @@ def part_behind(program, way):
     walk, ways = walk_of(program)
     key = ("part", way)
     if key not in program.kept:
-        cases = []
-        for past in ways:
-            if past[:2] == way:
-                error = equality(walk.indexes["value"], past[2:]) if way[0] == "raise" else EMPTY
-                cases.append(joint(ways[past], error))
-        program.kept[key] = part_of(walk, cases)
+        program.kept[key] = part_out(walk, {past: ways[past] for past in ways if past[:2] == way})
     return (walk, program.kept[key])
+
+
+def part_out(walk, ways):
+    """The part over all names of a walk with which runs come out by ways, with the values of errors, or None."""
+    cases = []
+    for past in ways:
+        error = equality(walk.indexes["value"], past[2:]) if past[0] == "raise" else EMPTY
+        cases.append(joint(ways[past], error))
+    return part_of(walk, cases)
 
 
 def part_coming(program, place):

@@ -77,6 +77,37 @@ def blocks_of(statement):
     return []
 
 
+def with_blocks(statement, blocks):
+    """The statement with other blocks, by their numbers."""
+    word = statement[0]
+    if word == "for":
+        return statement[:4] + tuple(blocks)
+    if word == "try":
+        heads = [handler[:2] for handler in statement[2]]
+        handlers = [head + (block,) for head, block in zip(heads, blocks[1:])]
+        return (word, blocks[0], tuple(handlers), blocks[-2], blocks[-1])
+    if word in ("if", "choose"):
+        return statement[:-2] + tuple(blocks)
+    return statement
+
+
+def changed(block, before, ahead, gone):
+    """The block with further statements, and without some; before is what the places in it begin with.
+
+    ahead has tuples of statements for the places ahead of which they are put, gone has the places of those left out.
+    """
+    found = []
+    for index, statement in enumerate(block):
+        place = before + (index,)
+        found.extend(list(ahead.get(place, ())))
+        if place not in gone:
+            blocks = []
+            for number, inner in enumerate(blocks_of(statement)):
+                blocks.append(changed(inner, place + (number,), ahead, gone))
+            found.append(with_blocks(statement, blocks))
+    return tuple(found)
+
+
 def settings_of(statement, place):
     """A pair (name, path) for each name that a statement sets.
 

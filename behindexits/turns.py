@@ -14,7 +14,7 @@ class Turns:
 
     def __init__(self, program, place):
         word, name, low, high, body, other = program[place]
-        walk = Walk(program, None)
+        walk = Walk(program)
         self.many = 1 + walk.behind
         self.known = [(known, walk.indexes[known]) for known in known_at(program, place)]
         self.terms = {walk.indexes[term]: term for term in walk.indexes}

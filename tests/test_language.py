@@ -36,6 +36,16 @@ INTERFACE = {
     "broken": {"run_fault": ["program", "path", "values"], "breaking": ["program", "way", "literal"]},
     "trees": {"closes": ["program", "path", "extra", "tree"]},
     "papers": {"paper": ["program", "way", "literal"], "paper_fault": ["program", "way", "literal", "paper"]},
+    "meetings": {
+        "joined": ["program", "ways"], "within": ["program", "way", "other"], "alike": ["one", "other"],
+        "may_join": ["program", "ways", "literals"],
+    },
+    "mends": {
+        "put_in": ["program", "place", "statement"], "harmless": ["program", "way", "wish", "place", "literal"],
+        "asked": ["program", "way", "wish", "choices"],
+    },
+    "places": {"holds_at": ["program", "place", "literal"], "needless": ["program"], "dropped": ["program", "places"]},
+    "texts": {"shown": ["program"], "read": ["text"]},
 }
 BUILTINS = set(
     "len range enumerate zip min max sum abs sorted reversed int str bool bytes list tuple dict set frozenset isinstance ord "
@@ -173,7 +183,10 @@ class TestLanguage(unittest.TestCase):
         for name, tree in self.each():
             for node in ast.walk(tree):
                 self.assertNotIsInstance(node, ast.Import)
-                if isinstance(node, ast.ImportFrom):
+                if isinstance(node, ast.ImportFrom) and node.module == "itertools":
+                    self.assertIn(node, tree.body)
+                    self.assertEqual([(alias.name, alias.asname) for alias in node.names], [("combinations", None)])
+                elif isinstance(node, ast.ImportFrom):
                     self.assertIn(node, tree.body)
                     self.assertEqual(node.level, 0)
                     package, module = node.module.split(".")
@@ -184,7 +197,7 @@ class TestLanguage(unittest.TestCase):
 
     def test_imports_go_in_no_ring(self):
         left = {
-            name: {node.module.split(".")[1] for node in tree.body if isinstance(node, ast.ImportFrom)}
+            name: {node.module.split(".")[-1] for node in tree.body if isinstance(node, ast.ImportFrom)} - {"itertools"}
             for name, tree in TREES.items()
         }
         while left:
