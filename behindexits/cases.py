@@ -5,7 +5,7 @@ Nothing here changes what it is passed.
 
 from behindexits.parts import EMPTY, denied, flat, free_zone, opened
 from behindexits.strips import merged
-from behindexits.zones import follows, literals_of, met_all
+from behindexits.zones import follows, literals_among, literals_of, met_all
 
 
 def joint(one, other):
@@ -45,6 +45,11 @@ def case_within(zone, part):
     """The case that a state of the zone fits if it is in the part."""
     inner, clauses = part
     return (tuple([literal for literal in literals_of(inner) if not follows(zone, literal)]), clauses)
+
+
+def case_among(zone, inner, indexes):
+    """The case that a state of the zone fits if, as to the integers at the indexes, it may be one of the inner zone."""
+    return (tuple([literal for literal in literals_among(inner, indexes) if not follows(zone, literal)]), ())
 
 
 def lean(part, given):

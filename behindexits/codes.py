@@ -54,7 +54,7 @@ class Code:
             self.indexes[name] = self.new_index()
         return self.indexes[name]
 
-    def row(self, row):
+    def put_row(self, row):
         self.listing.append(row)
         return len(self.listing) - 1
 
@@ -69,7 +69,7 @@ class Code:
             values = {name: self.index_of(name) for name in names}
             if way[0] == "raise":
                 values["value"] = self.error
-            self.stops[way] = self.row(("stop", 0, way, values))
+            self.stops[way] = self.put_row(("stop", 0, way, values))
         return self.stops[way]
 
     def exit_of(self, way, context):
@@ -100,9 +100,9 @@ class Code:
     def statement_row(self, statement, place, behind, context):
         word = statement[0]
         if word == "set":
-            return self.row((word, 1, self.index_of(statement[1])) + self.point(statement[2]) + (behind,))
+            return self.put_row((word, 1, self.index_of(statement[1])) + self.point(statement[2]) + (behind,))
         if word == "read":
-            return self.row((word, 1, place, self.index_of(statement[1]), behind))
+            return self.put_row((word, 1, place, self.index_of(statement[1]), behind))
         if word in ("if", "choose"):
             return self.fork_row(statement, place, behind, context)
         if word == "for":
@@ -113,10 +113,10 @@ class Code:
             way = ("raise", statement[2] if word == "ask" else statement[1])
             r, v, at = self.exit_of(way, context)
             head = self.literal(statement[1]) + (behind,) if word == "ask" else self.point(statement[2])
-            return self.row((word, 1) + head + (r, way, v, at))
+            return self.put_row((word, 1) + head + (r, way, v, at))
         # An out, a leave and an again are written like their ways.
         r, v, at = self.exit_of(statement, context)
-        return self.row(("way", 1, r, statement, at))
+        return self.put_row(("way", 1, r, statement, at))
 
     def literal(self, literal):
         left, right, number = literal
@@ -127,22 +127,22 @@ class Code:
         yes = self.block_row(blocks[0], place + (0,), behind, context)
         no = self.block_row(blocks[1], place + (1,), behind, context)
         if statement[0] == "choose":
-            return self.row(("choose", 1, place, yes, no))
-        return self.row(("if", 1) + self.literal(statement[1]) + (yes, no))
+            return self.put_row(("choose", 1, place, yes, no))
+        return self.put_row(("if", 1) + self.literal(statement[1]) + (yes, no))
 
     def loop_row(self, statement, place, behind, context):
         word, name, low, high, body, other = statement
         ends = self.point(low) + self.point(high)
         rest = self.block_row(other, place + (1,), behind, context)
         if not body:
-            return self.row(("bare", 1) + ends + (rest,))
+            return self.put_row(("bare", 1) + ends + (rest,))
         x = self.index_of(name)
         h = self.new_index()
         # What ends in the body goes on with this row, which needs to know the first row of the body.
-        turn = self.row(None)
+        turn = self.put_row(None)
         first = self.block_row(body, place + (0,), turn, (("loop", behind, turn), context))
         self.listing[turn] = ("turn", 0, x, h, first, rest)
-        return self.row(("for", 1, x) + ends + (h, turn))
+        return self.put_row(("for", 1, x) + ends + (h, turn))
 
     def try_row(self, statement, place, behind, context):
         word, block, handlers, other, always = statement
@@ -150,13 +150,13 @@ class Code:
             r = self.new_index()
             v = self.new_index()
             exits = {END: (SPARE, SPARE, behind)}
-            last = self.row(("last", 0, r, v, exits))
+            last = self.put_row(("last", 0, r, v, exits))
             first = self.block_row(always, place + (2 + len(handlers),), last, context)
             context = (("last", r, v, first, exits), context)
-            behind = self.row(("way", 0, r, END, first))
+            behind = self.put_row(("way", 0, r, END, first))
         rest = self.block_row(other, place + (1 + len(handlers),), behind, context)
         firsts = []
         for at, (kinds, name, inner) in enumerate(handlers):
             firsts.append(self.block_row(inner, place + (1 + at,), behind, context))
         frame = ("try", handlers, tuple(firsts))
-        return self.row(("go", 1, self.block_row(block, place + (0,), rest, (frame, context))))
+        return self.put_row(("go", 1, self.block_row(block, place + (0,), rest, (frame, context))))

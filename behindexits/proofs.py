@@ -169,7 +169,7 @@ class Search:
     def ends(self, fact, turn, there):
         """The values that are just behind what bounds turns that pass, if the turn is: as keys of a dict."""
         turns = turns_of(self.program, fact[1])
-        numbers = turns.numbers(there)
+        numbers = turns.numbers_of(there)
         stands = dict(fact[4])
         found = {}
         for i, j, number in turns.bounds:

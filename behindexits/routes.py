@@ -77,7 +77,7 @@ def try_counts(statement):
 def block_routes(block, wanted):
     """The routes to the wanted ways out of a block, in ascending order."""
     tails = [((), END)] if END in wanted else []
-    for statement in reversed(block):
+    for statement in reversed(list(block)):
         inner = {way: True for way in wanted if way != END}
         if tails:
             inner[END] = True

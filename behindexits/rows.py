@@ -106,7 +106,7 @@ class Reader:
     """
 
     def __init__(self, rows):
-        self.rows = rows
+        self.lines = rows
         self.opened = {}
         self.level = -1
         self.word = "try"
@@ -114,7 +114,7 @@ class Reader:
 
     def take(self, at):
         """Take the row at an index; whether it is right."""
-        row = self.rows[at]
+        row = self.lines[at]
         spaces = indent_of(row)
         head = head_in(row[spaces:].split(" "))
         if head is None or spaces % 2 == 1:
@@ -128,7 +128,7 @@ class Reader:
         if head[0] in TAILS:
             if not self.goes_on(head[0], level):
                 return False
-            if head[0] != "catch" and (at + 1 == len(self.rows) or indent_of(self.rows[at + 1]) != spaces + 2):
+            if head[0] != "catch" and (at + 1 == len(self.lines) or indent_of(self.lines[at + 1]) != spaces + 2):
                 return False
         else:
             self.opened[level] = (head[0], 0)

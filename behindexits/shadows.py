@@ -6,7 +6,7 @@ plus the offset.
 Nothing here changes what it is passed.
 """
 
-from behindexits.cases import any_of, case_within, has_some, lean, narrowed, options_of
+from behindexits.cases import any_of, case_among, case_within, has_some, lean, narrowed, options_of
 from behindexits.parts import denied, few_zones, lightest, opened
 from behindexits.zones import are_linked, freed, literals_of, met_all
 
@@ -42,7 +42,8 @@ def shadow_case(there, case, hidden):
         return None
     zones = few_zones(part)
     if zones is not None:
-        return any_of([case_within(zone, (freed(inner, hidden), ())) for inner in zones]) if zones else None
+        shown = [i for i in range(len(zone)) if i not in hidden]
+        return any_of([case_among(zone, inner, shown) for inner in zones]) if zones else None
     if not has_some(part, given):
         return None
     return case_within(zone, shadow(lean(part, given), hidden, given))

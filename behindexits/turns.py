@@ -24,7 +24,7 @@ class Turns:
         self.case = ((), (((), ()),)) if passing is None else passing
         self.bounds = bounds_of(self.case, self.x)
 
-    def numbers(self, values):
+    def numbers_of(self, values):
         """The integers, at their indexes, if the known names have these values."""
         found = [0] * self.many
         for name, index in self.known:
@@ -33,7 +33,7 @@ class Turns:
 
     def stretches(self, values):
         """The stretches (first, behind) of the turns that pass with these values of the known names."""
-        return stretches_of(self.case, self.bounds, self.x, self.numbers(values))
+        return stretches_of(self.case, self.bounds, self.x, self.numbers_of(values))
 
 
 def bounds_of(case, x):

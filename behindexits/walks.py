@@ -27,7 +27,7 @@ SMALL = 8
 # fails there, and the place of a statement with the number of a block in it is the way of what begins this block.
 HERE = ("here",)
 MET = "met"
-MET_END = (MET, "end")
+MET_END = ("met", "end")
 
 
 def names_set(block):

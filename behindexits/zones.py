@@ -75,24 +75,31 @@ def is_inside(zone, other):
 
 def literals_of(zone):
     """As few literals as give the zone."""
-    heads = [head_of(zone, i) for i in range(len(zone))]
+    return literals_among(zone, list(range(len(zone))))
+
+
+def literals_among(zone, indexes):
+    """As few literals as say what the zone says of the integers at these indexes, in ascending order."""
+    heads = {i: head_of(zone, indexes, i) for i in indexes}
     found = []
-    for head in [head for i, head in enumerate(heads) if head != i and heads.index(head, head + 1) == i]:
-        group = [i for i in range(len(zone)) if heads[i] == head]
-        # These differ by fixed numbers: a ring through them says so.
-        found = found + [(i, j, zone[i][j]) for i, j in zip(group, group[1:] + group[:1])]
-    firsts = [i for i in range(len(zone)) if heads[i] == i]
+    firsts = [i for i in indexes if heads[i] == i]
+    if len(firsts) < len(indexes):
+        for head in firsts:
+            group = [i for i in indexes if heads[i] == head]
+            if len(group) > 1:
+                # These differ by fixed numbers: a ring through them says so.
+                found = found + [(i, j, zone[i][j]) for i, j in zip(group, group[1:] + group[:1])]
     for i in firsts:
         others = [j for j in firsts if zone[i][j] is not None and i != j]
         found = found + [(i, j, zone[i][j]) for j in others if is_needed(zone, firsts, i, j)]
     return tuple(found)
 
 
-def head_of(zone, i):
-    """The least index whose integer differs from that of i by a fixed number."""
+def head_of(zone, indexes, i):
+    """The first one of the indexes whose integer differs from that of i by a fixed number."""
     row = zone[i]
-    for j in range(i):
-        if row[j] is not None and zone[j][i] is not None and row[j] + zone[j][i] == 0:
+    for j in indexes:
+        if j == i or (row[j] is not None and zone[j][i] is not None and row[j] + zone[j][i] == 0):
             return j
     return i
 
