@@ -70,7 +70,8 @@ def try_counts(statement):
     always = block_counts(blocks[-1])
     found = {}
     for way in before:
-        add_counts(found, {way if last == END else last: always[last] for last in always}, before[way])
+        for last in always:
+            add_counts(found, {way if last == END else last: always[last]}, before[way])
     return found
 
 

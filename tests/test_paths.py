@@ -7,6 +7,7 @@ import unittest
 from behindexits.errors import NoPath, NoWay, TooMany
 from behindexits.paths import along, facts_of, paths, way_of
 from behindexits.programs import Program
+from behindexits.routes import block_counts
 from behindexits.ways import ways
 from tests.makes import EVEN, TRIES, random_program
 from tests.plainpaths import walks_of_program
@@ -145,6 +146,8 @@ class TestPaths(unittest.TestCase):
                         paths(program, way)
                 else:
                     self.assertEqual(paths(program, way), [walk[0] for walk in wanted])
+            counts = block_counts(program.block)
+            self.assertEqual(counts, {way: len([walk for walk in walks if walk[1] == way]) for way in ways(program)})
             for path, way, names, facts in walks[:60]:
                 self.assertEqual((way_of(program, path), along(program, path), facts_of(program, path)), (way, names, facts))
                 self.assertTrue(all(type(decision) is int for decision in path))
