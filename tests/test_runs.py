@@ -329,6 +329,31 @@ class TestAgainstPlainRuns(RunCase):
 
 
 class TestRunning(RunCase):
+    def test_where_in_each_block(self):
+        kinds = ("far", "late", "big")
+        handlers = [((kind,), None, (("read", "x"),)) for kind in kinds]
+        block = [choose([("raise", kind, ZERO)]) for kind in kinds]
+        program = Program((), (attempt(block, handlers, [("read", "y")], [("read", "z")]),))
+        for at in range(4):
+            running = Running(program, {})
+            for index in range(min(at + 1, 3)):
+                self.assertEqual((running.asks, running.where), ("choose", (0, 0, index)))
+                running(0 if index == at else 1)
+            self.assertEqual((running.asks, running.where), ("read", (0, 1 + at, 0)))
+            running(5)
+            self.assertEqual((running.asks, running.where), ("read", (0, 5, 0)))
+            running(6)
+            self.assertEqual((running.asks, running.where, running.result), (None, None, (END, {})))
+        program = Program((), (choose([("read", "x")], [("read", "x")]), loop([("read", "y")], [("read", "z")], high=("x", 0))))
+        for answer, number in ((0, 0), (1, 1), (-7, 1)):
+            running = Running(program, {})
+            running(answer)
+            self.assertEqual(running.where, (0, number, 0))
+            for _ in range(2):
+                running(1)
+                self.assertEqual(running.where, (1, 0, 0) if running.asks and running.where[1] == 0 else (1, 1, 0))
+            self.assertEqual(running.where, (1, 1, 0))
+
     def outcome(self, program, inputs, answers):
         try:
             return run(program, inputs, answers)
