@@ -349,9 +349,9 @@ class TestRunning(RunCase):
             running = Running(program, {})
             running(answer)
             self.assertEqual(running.where, (0, number, 0))
-            for _ in range(2):
-                running(1)
-                self.assertEqual(running.where, (1, 0, 0) if running.asks and running.where[1] == 0 else (1, 1, 0))
+            running(1)
+            self.assertEqual(running.where, (1, 0, 0))
+            running(1)
             self.assertEqual(running.where, (1, 1, 0))
 
     def outcome(self, program, inputs, answers):
