@@ -48,17 +48,14 @@ def is_handler(thing):
     return are_names(kinds) and (name is None or is_name(name)) and isinstance(block, tuple)
 
 
-def parts_of(statement, wanted):
-    """The parts of a statement that are of one kind, in their order."""
-    return [part for part, kind in zip(statement[1:], SHAPES[statement[0]]) if kind == wanted]
-
-
 def terms_of(statement):
     """The terms that a statement looks at, in their order."""
-    found = [part[0] for part in parts_of(statement, "value")]
-    for left, right, number in parts_of(statement, "literal"):
-        found.extend([left, right])
-    return found
+    word = statement[0]
+    if word in ("set", "raise"):
+        return [statement[2][0]]
+    if word in ("if", "ask"):
+        return [statement[1][0], statement[1][1]]
+    return [statement[2][0], statement[3][0]] if word == "for" else []
 
 
 def handlers_of(statement):

@@ -45,11 +45,19 @@ def harmless(program, way, wish, place, literal):
 
 
 def is_harmless(program, way, wish, choice):
-    place, literal = choice
-    walk = Walk(program, place, literal)
-    ways = walk.ways()
+    walk, ways = walk_with(program, choice)
     met = {past[1:]: ways[past] for past in ways if past[0] == MET and past[1:3] == way}
     return some_with((walk, part_out(walk, met)), (wish,)) is None
+
+
+def walk_with(program, choice):
+    """A walk that looks at the test for a literal ahead of a place, with the ways that it finds."""
+    key = ("met", choice)
+    if key not in program.kept:
+        place, literal = choice
+        walk = Walk(program, place, literal)
+        program.kept[key] = (walk, walk.ways())
+    return program.kept[key]
 
 
 def asked(program, way, wish, choices):
