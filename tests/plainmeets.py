@@ -3,13 +3,13 @@
 A state has the key MET, with whether the test was met. All integers that are read are from -reach to reach.
 """
 
-from tests.plainsets import TooMuch, holds, number
+from tests.plainsets import Sets, TooMuch, holds, number
 
 END = ("end",)
 MET = "@met"
 
 
-class Meets:
+class Meets(Sets):
     """All ends of the runs of a program as (way, state), and which asks failed and which blocks were begun."""
 
     def __init__(self, program, reach, starts, place=None, literal=None, most=60000):
@@ -39,33 +39,13 @@ class Meets:
                     state = {**state, MET: True}
                 for way, after in self.statement(statement, before + (index,), state):
                     (ended if way == END else found).append(after if way == END else (way, after))
-            states = list({frozenset(state.items()): state for state in ended}.values())
-        pairs = found + [(END, state) for state in states]
-        return list({(way, frozenset(state.items())): (way, state) for way, state in pairs}.values())
+            states = self.different(ended)
+        return self.different_pairs(found + [(END, state) for state in states])
 
     def statement(self, statement, place, state):
-        word = statement[0]
-        if word == "set":
-            return [(END, {**state, statement[1]: number(state, statement[2])})]
-        if word == "read":
-            return [(END, {**state, statement[1]: answer}) for answer in range(-self.reach, self.reach + 1)]
-        if word == "if":
-            at = 0 if holds(state, statement[1]) else 1
-            return self.block(statement[2 + at], place + (at,), state)
-        if word == "choose":
-            return self.block(statement[1], place + (0,), state) + self.block(statement[2], place + (1,), state)
-        if word == "ask":
-            if holds(state, statement[1]):
-                return [(END, state)]
+        if statement[0] == "ask" and not holds(state, statement[1]):
             self.failed.add(place)
-            return [(("raise", statement[2], 0), state)]
-        if word == "raise":
-            return [(("raise", statement[1], number(state, statement[2])), state)]
-        if word == "for":
-            return self.loop(statement, place, state)
-        if word == "try":
-            return self.attempt(statement, place, state)
-        return [(statement, state)]
+        return super().statement(statement, place, state)
 
     def loop(self, statement, place, state):
         _, name, low, high, body, other = statement

@@ -6,7 +6,7 @@ import unittest
 from behindexits.broken import breaking, run_fault
 from behindexits.errors import NoLiterals, NoName, NoWay, TooMany
 from behindexits.facts import holds, tightest
-from behindexits.paths import along, facts_of, paths
+from behindexits.paths import along, paths
 from behindexits.programs import Program
 from behindexits.runs import run
 from behindexits.ways import known, ways

@@ -22,7 +22,7 @@ from behindexits.ways import known, known_at, ways
 from tests.makes import EVEN, TRIES, random_program
 from tests.plain import small_states
 from tests.plainsets import Sets, TooMuch, holds as does_hold
-from tests.short import END, LATE, OUT, ask, choose, loop, when
+from tests.short import END, OUT, ask, choose, loop, when
 from tests.things import frozen, odd_things
 
 PROGRAM = Program(("n",), (loop([ask("i", "n", -1), choose([])]), when("n", "", 3, [], [OUT]), ("read", "x")))

@@ -11,10 +11,11 @@ from behindexits.meetings import alike, joined, may_join, within
 from behindexits.programs import Program
 from behindexits.states import States
 from behindexits.ways import known, ways
+from tests.cases import ErrorCase
 from tests.makes import EVEN, TRIES, random_program
 from tests.plain import small_states
 from tests.short import END, LATE, OUT, ask, attempt, choose, loop, when
-from tests.things import frozen, is_same, odd_things
+from tests.things import is_same, odd_things
 
 BOUNDED = Program(("n", "k"), (
     when("", "k", 0, [], [("out", "low")]), loop([when("i", "k", -1, [], [("out", "over")])]),
@@ -41,21 +42,13 @@ def some_ways(choice, program, many):
     return tuple(choice.choice(ways(program)) for _ in range(many))
 
 
-class MeetingCase(unittest.TestCase):
+class MeetingCase(ErrorCase):
     def setUp(self):
         self.choice = random.Random(91)
 
     def programs(self, many, inputs=("n", "k")):
         for _ in range(many):
             yield random_program(self.choice, inputs, self.choice.choice((5, 7, 9)), weights=self.choice.choice((EVEN, TRIES)))
-
-    def assert_error(self, error, values, call, *arguments):
-        copies = frozen(arguments)
-        with self.assertRaises(error) as caught:
-            call(*arguments)
-        self.assertIs(type(caught.exception), error)
-        self.assertEqual(vars(caught.exception), values)
-        self.assertEqual(arguments, copies)
 
 
 class TestJoined(MeetingCase):

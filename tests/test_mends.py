@@ -10,11 +10,12 @@ from behindexits.mends import asked, harmless, put_in
 from behindexits.programs import Program
 from behindexits.runs import run
 from behindexits.ways import known, known_at, ways
+from tests.cases import ErrorCase
 from tests.makes import EVEN, TRIES, random_program
 from tests.plain import small_states
 from tests.plainmeets import TooMuch, lost
 from tests.short import AGAIN, END, LATE, LEAVE, OUT, ask, attempt, choose, loop, when
-from tests.things import frozen, is_same, odd_things
+from tests.things import is_same, odd_things
 
 WISH = ("out", "wish")
 LOOPS = dict(EVEN, **{"for": 5})
@@ -26,21 +27,13 @@ def test_of(literal):
     return ("if", literal, (), (WISH,))
 
 
-class MendCase(unittest.TestCase):
+class MendCase(ErrorCase):
     def setUp(self):
         self.choice = random.Random(101)
 
     def literal(self, names, reach=2):
         terms = ("",) + tuple(names)
         return (self.choice.choice(terms), self.choice.choice(terms), self.choice.randint(-reach, reach))
-
-    def assert_error(self, error, values, call, *arguments):
-        copies = frozen(arguments)
-        with self.assertRaises(error) as caught:
-            call(*arguments)
-        self.assertIs(type(caught.exception), error)
-        self.assertEqual(vars(caught.exception), values)
-        self.assertEqual(arguments, copies)
 
 
 class TestPutIn(MendCase):

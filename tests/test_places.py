@@ -10,27 +10,20 @@ from behindexits.places import dropped, holds_at, needless
 from behindexits.programs import Program
 from behindexits.runs import run
 from behindexits.ways import known_at
+from tests.cases import ErrorCase
 from tests.makes import EVEN, TRIES, random_program
 from tests.plain import small_states
 from tests.plainmeets import Meets, TooMuch
-from tests.short import AGAIN, END, LEAVE, OUT, ask, attempt, choose, loop, when
-from tests.things import frozen, is_same, odd_things
+from tests.short import AGAIN, LEAVE, OUT, ask, attempt, choose, loop, when
+from tests.things import is_same, odd_things
 
 FAR = Program(("n",), (loop([ask("i", "n", -1, "far"), ask("i", "", 9, "big")]),))
 LOOPS = dict(EVEN, **{"for": 5, "ask": 5})
 
 
-class PlacesCase(unittest.TestCase):
+class PlacesCase(ErrorCase):
     def setUp(self):
         self.choice = random.Random(111)
-
-    def assert_error(self, error, values, call, *arguments):
-        copies = frozen(arguments)
-        with self.assertRaises(error) as caught:
-            call(*arguments)
-        self.assertIs(type(caught.exception), error)
-        self.assertEqual(vars(caught.exception), values)
-        self.assertEqual(arguments, copies)
 
 
 class TestHoldsAt(PlacesCase):
