@@ -88,7 +88,8 @@ def less(parts, others):
 
 def are_inside(parts, others):
     """Whether each state of the parts is among the others."""
-    parts = [part for part in parts if not is_inside_one(part, others)]
+    if len(parts) * len(others) <= MOST_PAIRS:
+        parts = [part for part in parts if not is_inside_one(part, others)]
     if not parts:
         return True
     barred = tuple([denied(case_of(other)) for other in others])
