@@ -96,5 +96,5 @@ def is_met(program, way, wish, chosen):
     ahead = {}
     for place, literal in chosen:
         ahead[place] = ahead.get(place, ()) + (("if", literal, (), (WISH,)),)
-    other = with_ahead(program, ahead)
+    other = with_ahead(program, ahead) if ahead else program
     return way not in kept_ways(other) or some_behind(other, way, (opposite(wish),)) is None

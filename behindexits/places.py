@@ -20,14 +20,22 @@ def holds_at(program, place, literal):
 
 def needless(program):
     """The places of the asks that never fail, and the pairs of a place and the number of a block that none begins."""
+    if "needless" not in program.kept:
+        program.kept["needless"] = never_needed(program)
+    asks, blocks = program.kept["needless"]
+    return (list(asks), list(blocks))
+
+
+def never_needed(program):
     walk = Walk(program, None, None, True)
     ways = walk.ways()
     asks = []
     blocks = []
     for place in program.places():
-        if program[place][0] == "ask" and not is_taken(walk, ways, HERE + place):
+        statement = program[place]
+        if statement[0] == "ask" and not is_taken(walk, ways, HERE + place):
             asks.append(place)
-        for number in range(len(blocks_of(program[place]))):
+        for number in range(len(blocks_of(statement))):
             if not is_taken(walk, ways, HERE + place + (number,)):
                 blocks.append((place, number))
     return (asks, blocks)

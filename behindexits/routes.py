@@ -6,6 +6,9 @@ A route is a tuple (decisions, way). Ways that are wanted are the keys of a dict
 from behindexits.flows import END, LEAVE, first_fit
 from behindexits.forms import blocks_of
 
+# Statements that have one route, to the end and without decisions.
+STRAIGHT = ("set", "read")
+
 
 def following(statement, way):
     """The number of the part that follows when the block of a try has gone out by a way, or None if none does."""
@@ -27,18 +30,18 @@ def block_counts(block):
     found = {}
     many = 1
     for statement in block:
-        counts = statement_counts(statement)
-        add_counts(found, {way: counts[way] for way in counts if way != END}, many)
-        many = many * counts.get(END, 0)
+        if statement[0] not in STRAIGHT:
+            counts = statement_counts(statement)
+            add_counts(found, {way: counts[way] for way in counts if way != END}, many)
+            many = many * counts.get(END, 0)
     if many > 0:
         found[END] = many
     return found
 
 
 def statement_counts(statement):
+    """The same for a statement that is not straight."""
     word = statement[0]
-    if word in ("set", "read"):
-        return {END: 1}
     if word == "ask":
         return {END: 1, ("raise", statement[2]): 1}
     if word == "raise":
@@ -78,7 +81,8 @@ def try_counts(statement):
 def block_routes(block, wanted):
     """The routes to the wanted ways out of a block, in ascending order."""
     tails = [((), END)] if END in wanted else []
-    for statement in reversed(list(block)):
+    others = [statement for statement in block if statement[0] not in STRAIGHT]
+    for statement in reversed(list(others)):
         inner = {way: True for way in wanted if way != END}
         if tails:
             inner[END] = True
@@ -93,6 +97,7 @@ def block_routes(block, wanted):
 
 
 def statement_routes(statement, wanted):
+    """The same for a statement that is not straight."""
     word = statement[0]
     if word in ("if", "choose"):
         yes, no = blocks_of(statement)
@@ -106,7 +111,7 @@ def statement_routes(statement, wanted):
     elif word == "raise":
         found = [((), ("raise", statement[1]))]
     else:
-        found = [((), END if word in ("set", "read") else statement)]
+        found = [((), statement)]
     return [route for route in found if route[1] in wanted]
 
 
